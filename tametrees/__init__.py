@@ -1,0 +1,1 @@
+"""Trees whose places have integers, tame or not, and one number on many roads."""

@@ -1,0 +1,1 @@
+"""What trees are made of: fractions and tables of integers."""

@@ -1,0 +1,1 @@
+"""Trees, and what their tables tell."""

@@ -1,0 +1,180 @@
+"""The conventions and words that hold for every module: [0.1] to [0.12]."""
+
+import copy
+import unittest
+
+from tametrees.base import fractions
+from tametrees.errors import InvalidFraction, InvalidNumber, InvalidOperation, InvalidRow, InvalidTree
+from tametrees.trees import trees
+from tametrees.trees.trees import Tree, likenesses
+from tests.helpers import (
+    BIG, LONG, NO_VALUE, TOO_BIG, check_error, check_same, made_line, made_star, odd_values, plain, random_trees,
+)
+
+LINE = Tree.line((2, 3, 2))
+FORTY = made_line((LONG,) + (99,) * 39)
+
+
+def good_calls():
+    """A call of each function and method with right values: (what is called, its values)."""
+    return [
+        (fractions.lowest, (6, -4)), (fractions.plus, (1, (1, 2))), (fractions.minus, (1, (1, 2))),
+        (fractions.times, ((2, 3), (3, 4))), (fractions.over, (1, 4)), (fractions.compare, (1, 2)),
+        (fractions.floor_of, ((7, 2),)), (fractions.rest_of, ((7, 2),)), (fractions.is_integer, (3,)),
+        (fractions.is_fraction, ((1, 2),)), (fractions.is_number, (3,)),
+        (Tree, ((2, 3), ((0, 1),))), (Tree.line, ((2, 3),)), (Tree.star, (2, ((1,), (2, 3)))),
+        (LINE.neighbours, (1,)), (LINE.press, ((1, (1, 2), 0),)), (LINE.product, ((1, 1, 1), ((1, 2), 0, 0))),
+        (LINE.part, ((0, 1),)), (LINE.with_number, (0, 60)), (trees.tree_code, (LINE,)), (trees.are_alike, (LINE, LINE)),
+        (trees.is_likeness, (LINE, LINE, (0, 1, 2))), (trees.renamed, (LINE, (2, 1, 0))),
+    ]
+
+
+def has_only_plain_kinds(value):
+    """Whether a returned value is made of integers, booleans, strings, tuples and trees alone."""
+    if isinstance(value, tuple):
+        return type(value) is tuple and all(has_only_plain_kinds(part) for part in value)
+    return type(value) in (int, bool, str, Tree)
+
+
+class Conventions(unittest.TestCase):
+    def test_0_1_integers_have_at_most_sixty_digits(self):
+        for value in (BIG, -BIG):
+            check_same(self, fractions.plus(value, 0), (value, 1))
+            check_same(self, LINE.press((value, 0, 0)), ((-2 * value, 1), (value, 1), (0, 1)))
+        for value in (TOO_BIG, -TOO_BIG, LONG):
+            check_error(self, InvalidFraction, NO_VALUE, fractions.plus, value, 0)
+            check_error(self, InvalidNumber, value, fractions.lowest, value, 1)
+            check_error(self, InvalidRow, NO_VALUE, LINE.press, (value, 0, 0))
+            check_error(self, InvalidTree, NO_VALUE, Tree, (value,), ())
+
+    def test_0_1_returned_integers_can_be_longer(self):
+        check_same(self, LINE.product((BIG, 0, 0), (BIG, 0, 0)), (-2 * BIG * BIG, 1))
+        check_same(self, FORTY.numbers[0], LONG)
+        check_same(self, FORTY.table[0][0], -LONG)
+
+    def test_0_1_sequences_are_tuples(self):
+        for call, values in good_calls():
+            self.assertTrue(has_only_plain_kinds(call(*values)), call)
+            for at, value in enumerate(values):
+                if isinstance(value, tuple) and "is_" not in call.__name__:
+                    changed = values[:at] + (list(value),) + values[at + 1:]
+                    with self.assertRaises((InvalidTree, InvalidRow, InvalidOperation, InvalidFraction)):
+                        call(*changed)
+
+    def test_0_1_True_and_False_are_no_integers(self):
+        for value in (True, False):
+            check_error(self, InvalidFraction, NO_VALUE, fractions.plus, value, 1)
+            check_error(self, InvalidNumber, value, fractions.lowest, 1, value)
+            check_error(self, InvalidTree, NO_VALUE, Tree, (value,), ())
+            check_error(self, InvalidNumber, value, LINE.neighbours, value)
+            check_error(self, InvalidNumber, value, LINE.with_number, 0, value)
+            check_error(self, InvalidRow, NO_VALUE, LINE.press, (1, value, 1))
+            self.assertIs(value in LINE, False)
+
+    def test_0_2_equal_calls_return_equal_results_and_change_nothing(self):
+        for call, values in good_calls():
+            before = plain(list(values))
+            first, second = call(*values), call(*copy.deepcopy(values))
+            self.assertEqual(plain(first), plain(second))
+            self.assertEqual(plain(list(values)), before)
+            self.assertEqual(plain(LINE), ("tree", (2, 3, 2), ((0, 1), (1, 2))))
+
+    def test_0_2_refused_calls_change_nothing(self):
+        for call, values in good_calls():
+            for value in odd_values():
+                before = plain(value)
+                try:
+                    call(*((value,) + values[1:]))
+                except (InvalidTree, InvalidRow, InvalidOperation, InvalidFraction, InvalidNumber):
+                    pass
+                self.assertEqual(plain(value), before)
+
+    def test_0_2_what_is_yielded_is_not_shared(self):
+        numbers = list(LINE)
+        numbers.append(7)
+        numbers[0] = 9
+        self.assertEqual((list(LINE), LINE.numbers), ([2, 3, 2], (2, 3, 2)))
+        self.assertIsNot(iter(LINE), iter(LINE))
+
+    def test_0_4_a_generator_raises_its_errors_with_the_first_element(self):
+        for values in ((None, LINE), (LINE, None), ((2,), (2,))):
+            found = likenesses(*values)
+            check_error(self, InvalidTree, NO_VALUE, next, found)
+
+    def test_0_5_judges_return_booleans_for_every_value(self):
+        for value in odd_values():
+            for judge in (fractions.is_integer, fractions.is_fraction, fractions.is_number):
+                self.assertIn(judge(value), (True, False))
+                self.assertIs(type(judge(value)), bool)
+            for tree in (LINE, FORTY, Tree((0,), ())):
+                self.assertIs(type(trees.is_likeness(tree, tree, value)), bool)
+        self.assertIs(type(trees.are_alike(LINE, FORTY)), bool)
+
+    def test_0_7_the_first_wrong_argument_is_told(self):
+        for wrong in (None, (2,), True, "tree", (LINE,)):
+            check_error(self, InvalidTree, NO_VALUE, trees.are_alike, wrong, wrong)
+            check_error(self, InvalidTree, NO_VALUE, trees.is_likeness, LINE, wrong, wrong)
+            check_error(self, InvalidTree, NO_VALUE, trees.renamed, wrong, wrong)
+            check_error(self, InvalidOperation, NO_VALUE, trees.renamed, LINE, wrong)
+        check_error(self, InvalidNumber, -1, LINE.with_number, -1, -2)
+        check_error(self, InvalidNumber, -2, LINE.with_number, 1, -2)
+        check_error(self, InvalidNumber, "a", fractions.lowest, "a", "b")
+        check_error(self, InvalidNumber, "b", fractions.lowest, 1, "b")
+
+
+class Words(unittest.TestCase):
+    def test_0_8_returned_numbers_are_pairs(self):
+        check_same(self, fractions.plus(1, 1), (2, 1))
+        check_same(self, fractions.minus((1, 2), (1, 2)), (0, 1))
+        check_same(self, LINE.press((0, 0, 0)), ((0, 1), (0, 1), (0, 1)))
+        check_same(self, LINE.product((1, 0, 0), (0, 0, 1)), (0, 1))
+
+    def test_0_9_trees_that_the_package_made_can_be_larger(self):
+        check_error(self, InvalidTree, NO_VALUE, Tree, FORTY.numbers, FORTY.ties)
+        check_error(self, InvalidTree, NO_VALUE, Tree.line, (2,) * 13)
+        for tree in (FORTY, made_star(LONG, (61,) * 39), made_line(range(13)), made_line((61,))):
+            size = tree.size
+            backwards = tuple(reversed(range(size)))
+            other = trees.renamed(tree, backwards)
+            self.assertEqual(len(trees.tree_code(tree)), size)
+            self.assertIs(trees.are_alike(tree, other), True)
+            self.assertIs(trees.is_likeness(tree, other, backwards), True)
+            self.assertIn(next(iter(likenesses(tree, other))), (backwards, next(likenesses(tree, other))))
+            self.assertEqual(trees.renamed(other, backwards), tree)
+            self.assertEqual(len(tree.press((1,) * size)), size)
+            self.assertEqual(tree.product((1,) + (0,) * (size - 1), (1,) + (0,) * (size - 1)), (-tree[0], 1))
+            self.assertEqual(tree.part((0,)).numbers, (tree[0],))
+            self.assertEqual(tree.with_number(size - 1, 0).numbers, tree.numbers[:-1] + (0,))
+            self.assertEqual((len(tree.degrees), len(tree.table), len(tree.neighbours(0))), (size, size, tree.degrees[0]))
+            self.assertEqual(str(tree).split(":")[0].split(), ["tree"] + [str(number) for number in tree])
+
+    def test_0_9_a_place_has_a_degree_and_neighbours(self):
+        for tree in random_trees(21, 20, range(1, 13), 0, 60):
+            self.assertEqual(sum(tree.degrees), 2 * (tree.size - 1))
+            for place in range(tree.size):
+                for other in tree.neighbours(place):
+                    self.assertIn(place, tree.neighbours(other))
+                    self.assertIn((min(place, other), max(place, other)), tree.ties)
+
+    def test_0_10_products_and_presses(self):
+        for tree in random_trees(22, 20, range(1, 13), 0, 60):
+            units = [tuple(int(place == other) for other in range(tree.size)) for place in range(tree.size)]
+            row = tuple(place * place - 5 for place in range(tree.size))
+            for place in range(tree.size):
+                check_same(self, tree.press(row)[place], tree.product(row, units[place]))
+                check_same(self, tree.product(units[place], units[place]), (-tree[place], 1))
+
+    def test_0_11_a_bar_has_a_product_of_at_least_0(self):
+        check_same(self, Tree((2,) * 5, ((0, 1), (0, 2), (0, 3), (0, 4))).product((2, 1, 1, 1, 1), (2, 1, 1, 1, 1)), (0, 1))
+        check_same(self, Tree((0,), ()).product((1,), (1,)), (0, 1))
+
+    def test_0_12_the_table_has_the_products_of_unit_rows(self):
+        for tree in random_trees(23, 10, range(1, 13), 0, 60):
+            units = [tuple(int(place == other) for other in range(tree.size)) for place in range(tree.size)]
+            for one in range(tree.size):
+                for other in range(tree.size):
+                    check_same(self, (tree.table[one][other], 1), tree.product(units[one], units[other]))
+
+
+if __name__ == "__main__":
+    unittest.main()

@@ -1,0 +1,322 @@
+"""The form of the package: what can be seen of the rules of the language from the code alone."""
+
+import ast
+import builtins
+import pathlib
+import re
+import unittest
+
+ROOT = pathlib.Path(__file__).resolve().parent.parent
+PACKAGE = ROOT / "tametrees"
+FILES = sorted(PACKAGE.rglob("*.py"))
+LIBRARY = {
+    "math": ("gcd", "lcm", "isqrt", "comb", "perm", "factorial"),
+    "heapq": ("heappush", "heappop", "heapify", "heapreplace", "heappushpop"),
+}
+BUILTINS = set(
+    "len range enumerate zip min max sum abs sorted reversed int str bool list tuple dict set isinstance repr any all "
+    "divmod iter next Exception ValueError TypeError KeyError IndexError LookupError ZeroDivisionError ArithmeticError "
+    "OverflowError RuntimeError StopIteration NotImplemented property classmethod staticmethod".split()
+)
+METHODS = set(
+    "append clear copy count endswith extend find get index insert isalnum isalpha isdigit islower isspace isupper items "
+    "join keys ljust lower lstrip partition pop remove replace reverse rfind rjust rpartition rsplit rstrip setdefault "
+    "split splitlines startswith strip update upper values zfill bit_length add discard".split()
+)
+DUNDERS = set("__init__ __eq__ __repr__ __str__ __len__ __iter__ __contains__ __getitem__ __ne__".split())
+NODES = (
+    ast.Module, ast.FunctionDef, ast.ClassDef, ast.ImportFrom, ast.alias, ast.Assign, ast.AugAssign, ast.Expr, ast.Return,
+    ast.If, ast.While, ast.For, ast.Break, ast.Continue, ast.Pass, ast.Raise, ast.Yield, ast.YieldFrom, ast.Delete,
+    ast.Try, ast.ExceptHandler, ast.arguments, ast.arg, ast.keyword, ast.Constant, ast.Name, ast.Attribute, ast.Subscript,
+    ast.Slice, ast.Call, ast.BinOp, ast.UnaryOp, ast.BoolOp, ast.Compare, ast.IfExp, ast.Tuple, ast.List, ast.Dict,
+    ast.ListComp, ast.DictComp, ast.SetComp, ast.comprehension, ast.Lambda, ast.JoinedStr, ast.FormattedValue,
+    ast.Starred, ast.expr_context, ast.operator, ast.unaryop, ast.boolop, ast.cmpop,
+)
+EVERYWHERE = "register mro elements open input law version_info with_traceback add_note".split()
+WORDS = (
+    "typing|typing_extensions|enum|Enum|IntEnum|StrEnum|Flag|IntFlag|Generic|Protocol|ABC|ABCMeta|namedtuple|NamedTuple|"
+    "TypedDict|TYPE_CHECKING|abstractmethod"
+)
+INTERFACE = {
+    "errors": "TreeError InvalidTree InvalidRow InvalidClass InvalidTable InvalidFraction InvalidOperation ParseError "
+              "InvalidNumber UnknownName TooMany Refused NothingToUndo",
+    "base.fractions": "is_integer is_fraction is_number lowest plus minus times over compare floor_of rest_of",
+    "trees.trees": "MAX_PLACES MAX_NUMBER Tree tree_code are_alike likenesses is_likeness renamed",
+}
+
+
+def parsed(file):
+    return ast.parse(file.read_text(encoding="ascii"))
+
+
+def module_of(file):
+    parts = file.relative_to(ROOT).with_suffix("").parts
+    return ".".join(parts[:-1] if parts[-1] == "__init__" else parts)
+
+
+def bound_names(tree):
+    """The names that a module binds, imports included, each as often as it is bound."""
+    names = []
+    for node in tree.body:
+        if isinstance(node, (ast.FunctionDef, ast.ClassDef)):
+            names.append(node.name)
+        elif isinstance(node, ast.ImportFrom):
+            names.extend(name.name for name in node.names)
+        elif isinstance(node, ast.Assign):
+            names.extend(target.id for target in node.targets)
+    return names
+
+
+def docstrings(tree):
+    found = []
+    for node in ast.walk(tree):
+        if isinstance(node, (ast.Module, ast.FunctionDef, ast.ClassDef)) and ast.get_docstring(node) is not None:
+            found.append(node.body[0].value)
+    return found
+
+
+def functions(tree):
+    return [node for node in ast.walk(tree) if isinstance(node, ast.FunctionDef)]
+
+
+def local_names(function):
+    """Parameters and assigned names of a function."""
+    names = {arg.arg for arg in ast.walk(function.args) if isinstance(arg, ast.arg)}
+    names.update(node.id for node in ast.walk(function) if isinstance(node, ast.Name) and isinstance(node.ctx, ast.Store))
+    return names
+
+
+class Files(unittest.TestCase):
+    def test_the_folder_has_only_files_of_code(self):
+        for path in PACKAGE.rglob("*"):
+            if "__pycache__" in path.parts:
+                continue
+            if path.is_dir():
+                self.assertTrue((path / "__init__.py").is_file(), path)
+                self.assertFalse(path.with_suffix(".py").exists(), path)
+            else:
+                self.assertRegex(path.name, r"^[a-z_][a-z0-9_]*\.py$")
+                self.assertNotIn(path.stem, dir(builtins))
+                self.assertNotIn(path.stem, ("heapq", "math", "itertools", "collections", "site", "test", "tests"))
+        self.assertLessEqual(len(FILES), 100)
+
+    def test_characters_and_sizes(self):
+        for file in FILES:
+            text = file.read_text(encoding="ascii")
+            self.assertRegex(text, r"\A[\n -~]*\Z", file)
+            self.assertLessEqual(len(text.splitlines()), 399, file)
+            self.assertLessEqual(max(len(line) for line in text.splitlines()), 120, file)
+            for function in functions(ast.parse(text)):
+                first = min([function.lineno] + [node.lineno for node in function.decorator_list])
+                self.assertLessEqual(function.end_lineno - first + 1, 40, (file, function.name))
+
+    def test_each_file_tells_what_it_is_for(self):
+        for file in FILES:
+            self.assertIsNotNone(ast.get_docstring(parsed(file)), file)
+
+
+class Names(unittest.TestCase):
+    def test_the_interface_stands_in_its_files(self):
+        for module, words in INTERFACE.items():
+            tree = parsed(PACKAGE / (module.replace(".", "/") + ".py"))
+            defined = [node.name for node in tree.body if isinstance(node, (ast.FunctionDef, ast.ClassDef))]
+            defined += [node.targets[0].id for node in tree.body if isinstance(node, ast.Assign)]
+            for word in words.split():
+                self.assertIn(word, defined, module)
+
+    def test_each_name_is_bound_once_and_plain(self):
+        for file in FILES:
+            tree = parsed(file)
+            names = bound_names(tree)
+            self.assertEqual(len(names), len(set(names)), file)
+            outer = {node.name for node in tree.body if isinstance(node, ast.ClassDef)}
+            outer.update(name.name for node in tree.body if isinstance(node, ast.ImportFrom) for name in node.names)
+            for function in functions(tree):
+                self.assertFalse(local_names(function) & outer, (file, function.name))
+                self.assertFalse(local_names(function) & set(dir(builtins)), (file, function.name))
+            for name in names:
+                self.assertNotIn(name, dir(builtins), file)
+
+    def test_names_that_are_not_used(self):
+        for file in FILES:
+            text = file.read_text(encoding="ascii")
+            tree = ast.parse(text)
+            strings = [node for node in ast.walk(tree) if isinstance(node, ast.Constant) and isinstance(node.value, str)]
+            told = docstrings(tree)
+            for node in strings:
+                if not any(node is part for part in told):
+                    self.assertNotIn("%", node.value, file)
+                    self.assertIsNone(re.search(rf"\b({WORDS})\b", node.value), (file, node.value))
+            for word in ("(type)", "Meta", "metaclass=", "dataclass", "overload", "contextmanager", "_wall", "_WallAttr"):
+                self.assertNotIn(word, text, file)
+            for node in ast.walk(tree):
+                for name in (getattr(node, "id", None), getattr(node, "attr", None), getattr(node, "arg", None),
+                             getattr(node, "name", None)):
+                    self.assertNotIn(name, EVERYWHERE, file)
+                    if isinstance(name, str):
+                        self.assertIsNone(re.fullmatch(WORDS, name), file)
+                        self.assertTrue(not name.startswith("__") or name in DUNDERS, (file, name))
+
+
+class Imports(unittest.TestCase):
+    def test_imports_name_the_file_that_defines(self):
+        for file in FILES:
+            for node in parsed(file).body:
+                if isinstance(node, ast.ImportFrom):
+                    self.assertEqual(node.level, 0)
+                    self.assertTrue(all(name.asname is None for name in node.names))
+                    self.check_import(file, node)
+
+    def check_import(self, file, node):
+        if node.module in LIBRARY:
+            for name in node.names:
+                self.assertIn(name.name, LIBRARY[node.module], file)
+            return
+        self.assertTrue(node.module.startswith("tametrees."), (file, node.module))
+        source = ROOT / (node.module.replace(".", "/") + ".py")
+        tree = parsed(source)
+        defined = [part.name for part in tree.body if isinstance(part, (ast.FunctionDef, ast.ClassDef))]
+        defined += [part.targets[0].id for part in tree.body if isinstance(part, ast.Assign)]
+        for name in node.names:
+            self.assertIn(name.name, defined, (file, node.module))
+
+    def test_imports_are_used(self):
+        for file in FILES:
+            tree = parsed(file)
+            used = {node.id for node in ast.walk(tree) if isinstance(node, ast.Name)}
+            for node in tree.body:
+                if isinstance(node, ast.ImportFrom):
+                    self.assertTrue({name.name for name in node.names} <= used, file)
+
+    def test_no_two_files_import_from_each_other(self):
+        leads = {module_of(file): [node.module for node in parsed(file).body if isinstance(node, ast.ImportFrom)]
+                 for file in FILES}
+        for start in leads:
+            reached, waiting = set(), list(leads[start])
+            while waiting:
+                module = waiting.pop()
+                if module not in reached:
+                    reached.add(module)
+                    waiting.extend(leads.get(module, []))
+            self.assertNotIn(start, reached)
+
+
+class Statements(unittest.TestCase):
+    def test_only_plain_statements(self):
+        for file in FILES:
+            for node in ast.walk(parsed(file)):
+                self.assertIsInstance(node, NODES, (file, getattr(node, "lineno", 0)))
+                self.assertNotIsInstance(node, (ast.Div, ast.MatMult), (file, getattr(node, "lineno", 0)))
+                if isinstance(node, ast.Constant):
+                    self.assertIn(type(node.value), (int, str, bool, type(None)), (file, node.lineno))
+                if isinstance(node, ast.BinOp) and isinstance(node.op, ast.Pow):
+                    self.assertIsInstance(node.right, ast.Constant, (file, node.lineno))
+                    self.assertIn(node.right.value, range(65))
+                if isinstance(node, ast.Compare):
+                    self.check_is(file, node)
+
+    def check_is(self, file, node):
+        for sign, value in zip(node.ops, node.comparators):
+            if isinstance(sign, (ast.Is, ast.IsNot)):
+                self.assertIsInstance(value, ast.Constant, (file, node.lineno))
+                self.assertIn(value.value, (None, True, False))
+
+    def test_module_level(self):
+        for file in FILES:
+            for at, node in enumerate(parsed(file).body):
+                if at == 0 and isinstance(node, ast.Expr):
+                    continue
+                self.assertIsInstance(node, (ast.ImportFrom, ast.FunctionDef, ast.ClassDef, ast.Assign), file)
+                if isinstance(node, ast.Assign):
+                    self.assertEqual(len(node.targets), 1)
+                    self.assertFalse([part for part in ast.walk(node.value) if isinstance(part, ast.Call)], file)
+
+    def test_decorators_and_classes(self):
+        for file in FILES:
+            for node in ast.walk(parsed(file)):
+                if isinstance(node, ast.FunctionDef):
+                    for decorator in node.decorator_list:
+                        self.assertIn(decorator.id, ("property", "classmethod", "staticmethod"), file)
+                if isinstance(node, ast.ClassDef):
+                    self.assertEqual((node.decorator_list, node.keywords), ([], []))
+                    methods = [part.name for part in node.body if isinstance(part, ast.FunctionDef)]
+                    self.assertEqual(len(methods), len(set(methods)), file)
+                    self.assertTrue("__getitem__" not in methods or "__iter__" in methods)
+
+    def test_raised_errors_are_made_on_the_spot(self):
+        for file in FILES:
+            for node in ast.walk(parsed(file)):
+                if isinstance(node, ast.Raise) and node.exc is not None:
+                    self.assertIsInstance(node.exc, ast.Call, (file, node.lineno))
+                    self.assertIsInstance(node.exc.func, ast.Name, (file, node.lineno))
+
+
+class Calls(unittest.TestCase):
+    def test_calls_of_builtins_and_methods(self):
+        own = {node.name for file in FILES for node in functions(parsed(file))}
+        for file in FILES:
+            for node in ast.walk(parsed(file)):
+                if isinstance(node, ast.Call) and isinstance(node.func, ast.Attribute):
+                    self.assertIn(node.func.attr, METHODS | own, (file, node.lineno))
+                if isinstance(node, ast.Name) and node.id in dir(builtins):
+                    self.assertIn(node.id, BUILTINS, (file, node.lineno))
+                if isinstance(node, ast.Call) and isinstance(node.func, ast.Name):
+                    self.check_call(file, node)
+
+    def check_call(self, file, node):
+        name = node.func.id
+        if name in dir(builtins):
+            words = {word.arg for word in node.keywords}
+            allowed = {"sorted": {"key", "reverse"}, "min": {"key", "default"}, "max": {"key", "default"}, "sum": {"start"},
+                       "enumerate": {"start"}}
+            self.assertTrue(words <= allowed.get(name, set()), (file, node.lineno))
+        if name == "reversed":
+            inner = node.args[0]
+            self.assertIsInstance(inner, ast.Call, (file, node.lineno))
+            self.assertIn(inner.func.id, ("list", "tuple", "sorted", "range"), (file, node.lineno))
+
+    def test_sets_are_not_iterated(self):
+        for file in FILES:
+            for node in ast.walk(parsed(file)):
+                if isinstance(node, (ast.For, ast.comprehension)):
+                    inner = node.iter
+                    self.assertNotIsInstance(inner, (ast.Set, ast.SetComp), (file, inner.lineno))
+                    if isinstance(inner, ast.Call) and isinstance(inner.func, ast.Name):
+                        self.assertNotIn(inner.func.id, ("set", "frozenset"), (file, inner.lineno))
+
+    def test_zips_and_their_kin_are_iterated_at_once(self):
+        iterating = ("list", "tuple", "dict", "sorted", "sum", "any", "all", "enumerate", "zip", "min", "max", "reversed", "len")
+        for file in FILES:
+            tree = parsed(file)
+            fine = []
+            for node in ast.walk(tree):
+                if isinstance(node, (ast.For, ast.comprehension)):
+                    fine.append(node.iter)
+                if isinstance(node, ast.Call) and isinstance(node.func, ast.Name) and node.func.id in iterating:
+                    fine.extend(node.args)
+                if isinstance(node, ast.Compare):
+                    fine.extend(node.comparators)
+            for node in ast.walk(tree):
+                if isinstance(node, ast.Call) and isinstance(node.func, ast.Name):
+                    if node.func.id in ("zip", "enumerate", "reversed", "range"):
+                        self.assertTrue(any(node is part for part in fine), (file, node.lineno))
+
+    def test_generators_are_iterated_at_once(self):
+        names = set()
+        for file in FILES:
+            for function in functions(parsed(file)):
+                if any(isinstance(node, (ast.Yield, ast.YieldFrom)) for node in ast.walk(function)):
+                    self.assertNotIn(function.name, names)
+                    names.add(function.name)
+        for file in FILES:
+            tree = parsed(file)
+            fine = [node.iter for node in ast.walk(tree) if isinstance(node, (ast.For, ast.comprehension))]
+            fine += [node.value for node in ast.walk(tree) if isinstance(node, ast.YieldFrom)]
+            fine += [part for node in ast.walk(tree) if isinstance(node, ast.Call) for part in node.args]
+            for node in ast.walk(tree):
+                if isinstance(node, ast.Call) and isinstance(node.func, ast.Name) and node.func.id in names:
+                    self.assertTrue(any(node is part for part in fine), (file, node.lineno))
+
+
+if __name__ == "__main__":
+    unittest.main()
