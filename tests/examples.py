@@ -27,6 +27,70 @@ raises InvalidNumber(5)
 raises InvalidTree
 '''
 
+TABLES = '''
+>>> LINE, EVEN, FLAT = ((-2, 1), (1, -3)), ((2, 4), (6, 8)), ((1, 2, 3), (2, 4, 6))
+>>> [determinant(LINE), undone(LINE), rank(FLAT), is_table(((1, 2), (3,))), is_table(((True,),))]
+[5, (((-3, 5), (-1, 5)), ((-1, 5), (-2, 5))), 1, False, False]
+>>> [factors(LINE), factors(EVEN), determinant(EVEN), factors(FLAT), factors(((2, 0), (0, 3))), factors(((0, 0),)), factors(((4, 0), (0, 2)))]
+[(1, 5), (2, 4), -8, (1,), (1, 6), (), (2, 4)]
+>>> undone(((1, 2), (2, 4)))
+raises Refused(("singular",))
+>>> determinant(FLAT)
+raises InvalidOperation
+'''
+
+DEFINITE = '''
+>>> FORK = Tree((2, 2, 2, 2), ((0, 1), (0, 2), (0, 3)))
+>>> FIVE = Tree((2, 2, 2, 2, 2), ((0, 1), (0, 2), (0, 3), (0, 4)))
+>>> [pivots(Tree.line((2, 2, 2))), pivots(FORK), pivots(Tree.line((3, 1, 1)))]
+[((4, 3), (3, 2), (2, 1)), ((1, 2), (2, 1), (2, 1), (2, 1)), (None, (0, 1), (1, 1))]
+>>> [is_definite(FORK), is_definite(FIVE), determinant_of(FORK), determinant_of(FIVE), minors(FORK), minors(FIVE)]
+[True, False, 4, 0, (2, 3, 4, 4), (2, 3, 4, 4, 0)]
+>>> [definite_paper(Tree.line((2, 2))), is_definite_paper(FIVE, ("bar", (2, 1, 1, 1, 1))), is_definite_paper(FIVE, ("bar", (-4, -2, -2, -2, -2)))]
+[('pivots', ((3, 2), (2, 1))), True, True]
+>>> [is_definite_paper(FORK, ("bar", (2, 1, 1, 1))), is_definite_paper(FIVE, ("bar", (0, 0, 0, 0, 0))), definite_paper(Tree((0,), ()))[0]]
+[False, False, 'bar']
+>>> [determinant_of(Tree.line((1,) * 6)), is_definite(Tree.line((1,) * 6)), determinant_of(Tree.line((1, 1, 3))), pivots(Tree.line((1, 1, 3)))]
+[1, False, -1, ((-1, 2), (2, 3), (3, 1))]
+>>> is_definite(((2,), ()))
+raises InvalidTree
+'''
+
+DUALS = '''
+>>> FORK, BENT = Tree.star(2, ((2,), (2,), (2,))), Tree.line((2, 1, 3))
+>>> [path_between(FORK, 1, 3), path_between(BENT, 2, 0), path_between(BENT, 1, 1)]
+[(1, 0, 3), (2, 1, 0), (1,)]
+>>> [left_determinant(FORK, ()), left_determinant(FORK, (0,)), left_determinant(FORK, (1,)), left_determinant(FORK, (0, 1, 2, 3))]
+[4, 8, 4, 1]
+>>> [left_determinant(Tree.line((1, 1)), ()), left_determinant(Tree.line((0, 0, 0)), (1,)), left_determinant(Tree.line((0, 5)), ())]
+[0, 0, -1]
+>>> [undone_entry(FORK, 0, 0), undone_entry(FORK, 1, 2), dual_row(FORK, 1), dual_row(BENT, 0)]
+[(2, 1), (1, 2), ((1, 1), (1, 1), (1, 2), (1, 2)), ((2, 1), (3, 1), (1, 1))]
+>>> [is_dual(FORK, (0, (1, 2), (1, 2), 0)), is_dual(FORK, ((1, 2), 0, 0, 0)), is_dual(BENT, (1, 0, -7)), is_dual(BENT, (1, 0)), is_dual(BENT, (1, 0, True))]
+[True, False, True, False, False]
+>>> dual_row(Tree.line((1, 1)), 5)
+raises Refused(('bar',))
+'''
+
+GROUPS = '''
+>>> LINE, STAR, LONE = Tree.line((2, 2)), Tree.star(2, ((2,), (2,), (2,))), Tree.line((3,))
+>>> LEGS = Tree.star(2, ((2,), (2,), (3,)))
+>>> [classes_of(LINE), classes_of(LONE), classes_of(STAR)]
+[((0, 0), (1, 2), (2, 1)), ((0,), (1,), (2,)), ((0, 0, 0, 0), (0, 0, 2, 2), (0, 2, 0, 2), (0, 2, 2, 0))]
+>>> [class_product(LINE, (1, 2), (1, 2)), class_product(LINE, (1, 2), (2, 1)), class_product(LONE, (1,), (1,))]
+[1, 2, 2]
+>>> [class_product(STAR, (0, 2, 2, 0), (0, 2, 2, 0)), class_product(STAR, (0, 2, 2, 0), (0, 0, 2, 2))]
+[0, 2]
+>>> [class_factors(LINE), class_factors(STAR), class_factors(LEGS), len(halves_of(STAR)), halves_of(LINE)]
+[(3,), (2, 2), (8,), 4, ((0, 0),)]
+>>> [place_class(LINE, 0), place_class(STAR, 0), class_sum(LINE, (1, 2), (1, 2)), class_order(LEGS, place_class(LEGS, 3)), boxed_row(LINE, (1, 2))]
+[(2, 1), (0, 0, 0, 0), (2, 1), 4, ((1, 3), (2, 3))]
+>>> class_of(LINE, ((7, 3), (-1, 3)))
+(1, 2)
+>>> class_of(LINE, ((1, 2), 0))
+raises InvalidOperation
+'''
+
 
 def steps_of(text):
     """The pairs (what is asked, what is told) of a text of examples; nothing is told of an assignment."""

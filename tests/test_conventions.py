@@ -1,18 +1,24 @@
-"""The conventions and words that hold for every module: [0.1] to [0.12]."""
+"""The conventions, words and statements that hold for every module: [0.1] to [0.13], and [0.17]."""
 
 import copy
 import unittest
 
-from tametrees.base import fractions
-from tametrees.errors import InvalidFraction, InvalidNumber, InvalidOperation, InvalidRow, InvalidTree
-from tametrees.trees import trees
+from tametrees.base import fractions, tables
+from tametrees.errors import (
+    InvalidClass, InvalidFraction, InvalidNumber, InvalidOperation, InvalidRow, InvalidTable, InvalidTree, Refused,
+)
+from tametrees.trees import definite, duals, groups, trees
 from tametrees.trees.trees import Tree, likenesses
 from tests.helpers import (
     BIG, LONG, NO_VALUE, TOO_BIG, check_error, check_same, made_line, made_star, odd_values, plain, random_trees,
 )
 
 LINE = Tree.line((2, 3, 2))
+CLASS = groups.classes_of(LINE)[1]
 FORTY = made_line((LONG,) + (99,) * 39)
+REFUSALS = (
+    InvalidTree, InvalidRow, InvalidOperation, InvalidFraction, InvalidNumber, InvalidTable, InvalidClass, Refused,
+)
 
 
 def good_calls():
@@ -26,6 +32,17 @@ def good_calls():
         (LINE.neighbours, (1,)), (LINE.press, ((1, (1, 2), 0),)), (LINE.product, ((1, 1, 1), ((1, 2), 0, 0))),
         (LINE.part, ((0, 1),)), (LINE.with_number, (0, 60)), (trees.tree_code, (LINE,)), (trees.are_alike, (LINE, LINE)),
         (trees.is_likeness, (LINE, LINE, (0, 1, 2))), (trees.renamed, (LINE, (2, 1, 0))),
+        (tables.is_table, (((1, 2), (3, 4)),)), (tables.rank, (((1, 2), (3, 4)),)), (tables.factors, (((1, 2), (3, 4)),)),
+        (tables.determinant, (((1, 2), (3, 4)),)), (tables.undone, (((1, 2), (3, 4)),)),
+        (definite.is_definite, (LINE,)), (definite.pivots, (LINE,)), (definite.determinant_of, (LINE,)),
+        (definite.minors, (LINE,)), (definite.definite_paper, (LINE,)), (definite.definite_paper, (Tree.line((1, 1)),)),
+        (definite.is_definite_paper, (LINE, ("bar", (1, 1, 1)))),
+        (duals.path_between, (LINE, 0, 2)), (duals.left_determinant, (LINE, (0, 1))), (duals.undone_entry, (LINE, 0, 2)),
+        (duals.dual_row, (LINE, 1)), (duals.is_dual, (LINE, (1, 2, 3))),
+        (groups.is_class, (LINE, (2, 4, 6))), (groups.classes_of, (LINE,)), (groups.class_of, (LINE, (1, 2, 3))),
+        (groups.boxed_row, (LINE, CLASS)), (groups.place_class, (LINE, 1)), (groups.class_sum, (LINE, CLASS, CLASS)),
+        (groups.class_opposite, (LINE, CLASS)), (groups.class_order, (LINE, CLASS)),
+        (groups.class_product, (LINE, CLASS, CLASS)), (groups.class_factors, (LINE,)), (groups.halves_of, (LINE,)),
     ]
 
 
@@ -58,7 +75,7 @@ class Conventions(unittest.TestCase):
             for at, value in enumerate(values):
                 if isinstance(value, tuple) and "is_" not in call.__name__:
                     changed = values[:at] + (list(value),) + values[at + 1:]
-                    with self.assertRaises((InvalidTree, InvalidRow, InvalidOperation, InvalidFraction)):
+                    with self.assertRaises(REFUSALS):
                         call(*changed)
 
     def test_0_1_True_and_False_are_no_integers(self):
@@ -85,7 +102,7 @@ class Conventions(unittest.TestCase):
                 before = plain(value)
                 try:
                     call(*((value,) + values[1:]))
-                except (InvalidTree, InvalidRow, InvalidOperation, InvalidFraction, InvalidNumber):
+                except REFUSALS:
                     pass
                 self.assertEqual(plain(value), before)
 
@@ -106,8 +123,12 @@ class Conventions(unittest.TestCase):
             for judge in (fractions.is_integer, fractions.is_fraction, fractions.is_number):
                 self.assertIn(judge(value), (True, False))
                 self.assertIs(type(judge(value)), bool)
+            self.assertIs(type(tables.is_table(value)), bool)
             for tree in (LINE, FORTY, Tree((0,), ())):
                 self.assertIs(type(trees.is_likeness(tree, tree, value)), bool)
+                self.assertIs(type(definite.is_definite_paper(tree, value)), bool)
+                self.assertIs(type(duals.is_dual(tree, value)), bool)
+            self.assertIs(type(groups.is_class(LINE, value)), bool)
         self.assertIs(type(trees.are_alike(LINE, FORTY)), bool)
 
     def test_0_7_the_first_wrong_argument_is_told(self):
@@ -174,6 +195,25 @@ class Words(unittest.TestCase):
             for one in range(tree.size):
                 for other in range(tree.size):
                     check_same(self, (tree.table[one][other], 1), tree.product(units[one], units[other]))
+
+    def test_0_13_each_class_has_one_boxed_row(self):
+        for tree in (LINE, Tree.line((2, 2)), Tree((1,), ()), Tree.star(2, ((2,), (2,), (3,)))):
+            whole = definite.determinant_of(tree)
+            found = groups.classes_of(tree)
+            self.assertEqual((len(found), found[0]), (whole, (0,) * tree.size))
+            for class_ in found:
+                row = groups.boxed_row(tree, class_)
+                check_same(self, row, tuple(fractions.lowest(part, whole) for part in class_))
+                self.assertIs(duals.is_dual(tree, row), True)
+                self.assertTrue(all(fractions.compare(0, entry) <= 0 and fractions.compare(entry, 1) < 0 for entry in row))
+
+    def test_0_17_each_tree_has_one_of_two_papers(self):
+        for tree in random_trees(24, 40, range(1, 13), 0, 3) + [FORTY]:
+            word, shown = definite.definite_paper(tree)
+            self.assertEqual(word, "pivots" if definite.is_definite(tree) else "bar")
+            self.assertIs(definite.is_definite_paper(tree, (word, shown)), True)
+            other = "bar" if word == "pivots" else "pivots"
+            self.assertIs(definite.is_definite_paper(tree, (other, shown)), False)
 
 
 if __name__ == "__main__":

@@ -3,8 +3,8 @@
 import unittest
 
 from tametrees import errors
-from tametrees.base import fractions
-from tametrees.trees import trees
+from tametrees.base import fractions, tables
+from tametrees.trees import definite, duals, groups, trees
 from tests import examples
 
 
@@ -20,8 +20,20 @@ class Examples(unittest.TestCase):
     def test_fractions(self):
         examples.run_examples(self, examples.FRACTIONS, names_of(fractions))
 
+    def test_tables(self):
+        examples.run_examples(self, examples.TABLES, names_of(tables))
+
     def test_trees(self):
         examples.run_examples(self, examples.TREES, names_of(trees))
+
+    def test_definite_trees(self):
+        examples.run_examples(self, examples.DEFINITE, names_of(trees, definite))
+
+    def test_dual_rows(self):
+        examples.run_examples(self, examples.DUALS, names_of(trees, duals))
+
+    def test_classes(self):
+        examples.run_examples(self, examples.GROUPS, names_of(trees, groups))
 
 
 if __name__ == "__main__":

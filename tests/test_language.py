@@ -41,7 +41,12 @@ INTERFACE = {
     "errors": "TreeError InvalidTree InvalidRow InvalidClass InvalidTable InvalidFraction InvalidOperation ParseError "
               "InvalidNumber UnknownName TooMany Refused NothingToUndo",
     "base.fractions": "is_integer is_fraction is_number lowest plus minus times over compare floor_of rest_of",
+    "base.tables": "MAX_SIDE is_table rank factors determinant undone",
     "trees.trees": "MAX_PLACES MAX_NUMBER Tree tree_code are_alike likenesses is_likeness renamed",
+    "trees.definite": "is_definite pivots determinant_of minors definite_paper is_definite_paper",
+    "trees.duals": "path_between left_determinant undone_entry dual_row is_dual",
+    "trees.groups": "MAX_CLASSES is_class classes_of class_of boxed_row place_class class_sum class_opposite class_order "
+                    "class_product class_factors halves_of",
 }
 
 
