@@ -5,6 +5,7 @@ import builtins
 import pathlib
 import re
 import unittest
+import warnings
 
 ROOT = pathlib.Path(__file__).resolve().parent.parent
 PACKAGE = ROOT / "tametrees"
@@ -115,6 +116,12 @@ class Files(unittest.TestCase):
                 first = min([function.lineno] + [node.lineno for node in function.decorator_list])
                 self.assertLessEqual(function.end_lineno - first + 1, 40, (file, function.name))
 
+    def test_python_gives_no_warning(self):
+        with warnings.catch_warnings():
+            warnings.simplefilter("error")
+            for file in FILES:
+                compile(file.read_text(encoding="ascii"), str(file), "exec")
+
     def test_each_file_tells_what_it_is_for(self):
         for file in FILES:
             self.assertIsNotNone(ast.get_docstring(parsed(file)), file)
@@ -161,6 +168,20 @@ class Names(unittest.TestCase):
                     if isinstance(name, str):
                         self.assertIsNone(re.fullmatch(WORDS, name), file)
                         self.assertTrue(not name.startswith("__") or name in DUNDERS, (file, name))
+
+
+    def test_variables_of_comprehensions_have_names_of_their_own(self):
+        for file in FILES:
+            for function in functions(parsed(file)):
+                comprehensions = [node for node in ast.walk(function) if isinstance(node, (ast.ListComp, ast.DictComp, ast.SetComp))]
+                targets = [[part for line in node.generators for part in ast.walk(line.target) if isinstance(part, ast.Name)]
+                           for node in comprehensions]
+                within = {part.id for parts in targets for part in parts} - {"_"}
+                kept = [part for parts in targets for part in parts]
+                outside = {node.id for node in ast.walk(function) if isinstance(node, ast.Name)
+                           and isinstance(node.ctx, ast.Store) and not any(node is part for part in kept)}
+                outside.update(arg.arg for arg in ast.walk(function.args) if isinstance(arg, ast.arg))
+                self.assertFalse(within & outside, (file, function.name))
 
 
 class Imports(unittest.TestCase):

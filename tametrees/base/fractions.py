@@ -1,9 +1,8 @@
 """Fractions: pairs (top, bottom) of integers in lowest terms, the bottom above 0."""
 
 from tametrees.base.kinds import is_whole
-from tametrees.base.ratios import (
-    is_ratio, pair_of, ratio, ratio_difference, ratio_product, ratio_quotient, ratio_sum,
-)
+from tametrees.base.ratios import is_ratio, pair_of, ratio
+from tametrees.base.ratios import ratio_difference, ratio_product, ratio_quotient, ratio_sum
 from tametrees.errors import InvalidFraction, InvalidNumber, InvalidOperation
 
 # The least integer above 0 that has more than sixty digits.

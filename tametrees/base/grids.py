@@ -10,7 +10,7 @@ def rank_and_minor(rows):
     If these are all rows and columns, the determinant has the right sign.
     Each division leaves no rest: after k steps all entries left are determinants of k + 1 rows and columns.
     """
-    left = [list(row) for row in rows]
+    left = [list(entries) for entries in rows]
     last, sign = 1, 1
     for at in range(min(len(rows), len(rows[0]))):
         spot = _first_spot(left, at)
@@ -53,10 +53,14 @@ def determinant_of_rows(rows):
     return minor if rank == len(rows) else 0
 
 
+def _unit_row(place, size):
+    return [1 if place == at else 0 for at in range(size)]
+
+
 def undone_rows(rows):
     """The undone table, as tuples of pairs, of as many rows as columns, or None if the determinant is 0."""
     size = len(rows)
-    wide = [list(row) + [1 if at == place else 0 for place in range(size)] for at, row in enumerate(rows)]
+    wide = [list(row) + _unit_row(place, size) for place, row in enumerate(rows)]
     last = 1
     for at in range(size):
         spots = [row for row in range(at, size) if wide[row][at] != 0]

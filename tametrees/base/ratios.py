@@ -59,6 +59,6 @@ def with_common_bottom(row):
     """The tuple of the tops of a row of numbers over one common bottom, and this bottom."""
     pairs = [pair_of(number) for number in row]
     shared = 1
-    for _, bottom in pairs:
-        shared = lcm(shared, bottom)
+    for pair in pairs:
+        shared = lcm(shared, pair[1])
     return tuple([top * (shared // bottom) for top, bottom in pairs]), shared

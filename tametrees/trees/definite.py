@@ -72,7 +72,7 @@ def definite_paper(tree):
 
 
 def _bar_from(tree, found, top):
-    """The bar that a place with a pivot of at most 0 tells: rows of fractions, multiplied by a common bottom."""
+    """The bar that a place with a pivot of at most 0 tells: a row of fractions, times their common bottom."""
     order, parents = rooted(near_of(tree), 0)
     entries = [(0, 1) for _ in order]
     entries[top] = (1, 1)
@@ -86,7 +86,7 @@ def _bar_from(tree, found, top):
 def is_definite_paper(tree, value):
     """Whether the value is a paper of the tree. Integers in it can have any length."""
     check_tree(tree)
-    if not isinstance(value, tuple) or len(value) != 2 or not isinstance(value[0], str):
+    if not isinstance(value, tuple) or len(value) != 2:
         return False
     word, shown = value
     if word == PIVOTS:

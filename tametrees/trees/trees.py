@@ -4,9 +4,8 @@ from tametrees.base.fractions import is_number
 from tametrees.base.kinds import are_indices, is_index, is_order, is_whole_within
 from tametrees.base.ratios import ratio, with_common_bottom
 from tametrees.errors import InvalidNumber, InvalidOperation, InvalidRow, InvalidTree
-from tametrees.trees.shapes import (
-    are_ties, hang_together, near_places, presses_of, product_of, table_of, ties_among, ties_renamed,
-)
+from tametrees.trees.shapes import are_ties, hang_together, near_places, ties_among, ties_renamed
+from tametrees.trees.shapes import presses_of, product_of, table_of
 from tametrees.trees.walks import Branches, least_code, likenesses_from
 
 MAX_PLACES = 12
@@ -38,7 +37,7 @@ class Tree:
     @classmethod
     def star(cls, number, legs):
         """The tree of the place 0, with `number`, and of lines whose first places are tied to it."""
-        if not isinstance(legs, tuple) or not all([_are_numbers(leg) for leg in legs]):
+        if not isinstance(legs, tuple) or not all([_are_numbers(part) for part in legs]):
             raise InvalidTree("the legs of a star are a tuple of non-empty tuples of integers from 0 to 60")
         numbers = [number]
         ties = []

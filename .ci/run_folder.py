@@ -1,4 +1,4 @@
-"""Runs all tests of one folder: `python3 tests/run_folder.py FOLDER TOP`. Prints how many passed and how many failed."""
+"""Runs all tests of one folder: `python3 .ci/run_folder.py FOLDER TOP`. Prints how many passed and how many failed."""
 
 import sys
 import unittest
