@@ -92,6 +92,147 @@ raises InvalidOperation
 '''
 
 
+KIN = '''
+>>> from tametrees.trees.trees import Tree
+>>> ONE, LONG, SEVEN = Tree((1,), ()), Tree.line((2, 1, 3)), Tree((1, 2, 3, 7), ((0, 1), (0, 2), (0, 3)))
+>>> [takeable(LONG), takeable(ONE), takeable(SEVEN), takeable(Tree.line((1, 1))), takeable(Tree.line((1, 0)))]
+[(1,), (), (), (0, 1), ()]
+>>> [taken_down(LONG, 1) == Tree.line((1, 2)), taken_down(Tree.line((1, 1)), 0) == Tree((0,), ()), least_tree(LONG) == ONE, least_tree(SEVEN) == SEVEN]
+[True, True, True, True]
+>>> [put_at_place(Tree((2,), ()), 0) == Tree.line((3, 1)), put_at_tie(Tree.line((2, 2)), 1, 0) == Tree((3, 3, 1), ((0, 2), (1, 2)))]
+[True, True]
+>>> [are_kin(LONG, ONE), are_kin(SEVEN, ONE), is_kin_paper(LONG, ONE, ("kin", (1, 0), (), (0,))), is_kin_paper(LONG, ONE, ("kin", (1, 1), (), (0,))), is_kin_paper(SEVEN, ONE, ("apart", (), ()))]
+[True, False, True, False, True]
+>>> taken_down(LONG, 0)
+raises InvalidOperation
+>>> least_tree(Tree.line((1, 1)))
+raises Refused(('bar',))
+'''
+
+CHAINS = '''
+>>> [chain_numbers(7, 3), chain_numbers(5, 4), chain_numbers(9, 1), chain_fraction((3, 2, 2)), chain_fraction((2, 4)), chain_fraction((60,))]
+[(3, 2, 2), (2, 2, 2, 2), (9,), (7, 3), (7, 4), (60, 1)]
+>>> [turned_chain((3, 2, 2)), chain_fraction((2, 2, 3)), beside_chain((3, 2, 2)), beside_chain((3,)), joined_chain((3, 2, 2))]
+[(2, 2, 3), (7, 5), (2, 4), (2, 2), (3, 2, 2, 1, 4, 2)]
+>>> [chain_down((3, 2, 2, 1, 4, 2)), chain_down((3, 1, 2, 2)), chain_down((2, 2)), chain_down((1,)), chain_down((1, 0)), chain_down((2, 1, 5))]
+[(0,), (0,), (2, 2), (1,), (-1,), (3,)]
+>>> [saw_sum(1, 2), saw_sum(1, 3), saw_sum(3, 7), saw_sum(8, 65), saw_sum(-1, 3), saw_sum(5, 1)]
+[(0, 1), (1, 18), (-1, 14), (0, 1), (-1, 18), (0, 1)]
+>>> [chain_share(2, 1), chain_share(3, 1), chain_share(7, 3), chain_share(5, 4)]
+[(1, 1), (2, 3), (18, 7), (4, 1)]
+>>> chain_numbers(6, 4)
+raises InvalidOperation
+>>> chain_numbers(7, 7)
+raises InvalidNumber(7)
+>>> chain_numbers(100, 99)
+raises TooMany(60)
+'''
+
+STEPS = '''
+>>> from tametrees.trees.trees import Tree
+>>> LINE, SEVEN = Tree.line((2, 2)), Tree((1, 2, 3, 7), ((0, 1), (0, 2), (0, 3)))
+>>> [is_quiet(LINE, (1, 1)), is_quiet(LINE, (1, 0)), is_quiet(LINE, (1, 0), bounds=(0, 1)), is_quiet(LINE, ((1, 3), (2, 3)))]
+[True, False, True, True]
+>>> [quiet_above(LINE, (1, 0)), quiet_above(LINE, (0, (1, 2))), quiet_above(LINE, (0, 0), bounds=(-1, -1)), quiet_above(LINE, (-3, 1))]
+[((1, 1), (1, 1)), ((1, 1), (1, 2)), ((1, 1), (1, 1)), ((1, 1), (1, 1))]
+>>> [steps_above(LINE, (1, 0)), is_steps(LINE, (1, 0), (1, 1)), is_steps(LINE, (1, 0), ()), is_steps(LINE, (0, 0), (1, 0), bounds=(-1, -1)), is_steps(LINE, (0, 0), (0, 1), bounds=(-1, -1))]
+[(1,), False, False, True, True]
+>>> [least_cycle(LINE), least_cycle(SEVEN), least_cycle(Tree.line((2, 1, 5))), len(steps_above(SEVEN, (1, 0, 0, 0)))]
+[(1, 1), (6, 3, 2, 1), (1, 2, 1), 11]
+>>> quiet_above(LINE, (20001, 0))
+raises TooMany(10000)
+>>> least_cycle(Tree.line((1, 1)))
+raises Refused(("bar",))
+'''
+
+TAME = '''
+>>> STAR, WILD = Tree.star(2, ((2,), (2,), (2,))), Tree.star(2, ((2,), (2,), (2,), (3,)))
+>>> [worth(STAR, (2, 1, 1, 1)), worth(STAR, (0, 0, 3, 0)), worth(WILD, (2, 1, 1, 1, 1)), worth(WILD, (1, 1, 1, 1, 1))]
+[1, 9, 0, 1]
+>>> [is_tame(STAR), is_tame(WILD), is_tame(Tree.line((5, 1, 2))), multiplicity(STAR), multiplicity(WILD), multiplicity(Tree.line((3, 4)))]
+[True, False, True, 2, 1, 5]
+>>> [is_tame_paper(STAR, ("steps", (1, 0, 2, 3, 0))), is_tame_paper(STAR, ("steps", (1, 0, 2, 3))), is_tame_paper(WILD, ("sink", (2, 1, 1, 1, 1)))]
+[True, False, True]
+>>> [least_sink(WILD), least_sink(STAR), is_least_sink(WILD, (2, 1, 1, 1, 1)), is_least_sink(WILD, (2, 1, 1, 1, 2)), tame_paper(Tree.line((1,)))]
+[(2, 1, 1, 1, 1), None, True, False, ('steps', (0,))]
+>>> worth(STAR, (1, 2, 3))
+raises InvalidRow
+>>> is_tame(Tree.line((1, 1)))
+raises Refused(("bar",))
+'''
+
+TWOS = '''
+>>> LINE, FORK = Tree((2, 2), ((0, 1),)), Tree((2, 2, 2, 2), ((0, 1), (0, 2), (0, 3)))
+>>> LEGS = Tree((2,) * 8, ((0, 1), (0, 2), (0, 4), (2, 3), (4, 5), (5, 6), (6, 7)))
+>>> [twos_kind(LINE), twos_kind(FORK), twos_kind(LEGS), twos_kind(Tree((2,), ())), two_rows(LINE)]
+[('line', 2), ('fork', 4), ('legs', 8), ('line', 1), ((-1, -1), (-1, 0), (0, -1), (0, 1), (1, 0), (1, 1))]
+>>> [two_count(FORK), two_count(LEGS), greatest_two(FORK), greatest_two(LEGS), two_heights(LINE), two_heights(FORK)]
+[24, 240, (2, 1, 1, 1), (6, 3, 4, 2, 5, 4, 3, 2), (2, 1), (4, 3, 3, 1, 1)]
+>>> twos_kind(Tree((2,) * 7, ((0, 1), (0, 3), (0, 5), (1, 2), (3, 4), (5, 6))))
+None
+>>> two_rows(Tree((2, 3, 1), ((0, 1), (0, 2))))
+raises Refused(('number', 1))
+>>> two_count(Tree((2,) * 5, ((0, 1), (0, 2), (0, 3), (0, 4))))
+raises Refused(('bar',))
+'''
+
+DEPTH = '''
+>>> from tametrees.rows.steps import least_cycle
+>>> from tametrees.rows.tame import worth
+>>> SEVEN, FOUR = Tree.star(1, ((2,), (3,), (7,))), Tree.star(2, ((2,), (2,), (2,), (3,)))
+>>> LEGS = Tree.star(2, ((3,), (3,), (3,), (3,), (3,)))
+>>> [k_row(SEVEN), k_multiple(SEVEN), share_of(SEVEN), k_row(Tree.line((3,))), k_multiple(Tree.line((3,))), share_of(Tree.line((3,)))]
+[((-2, 1), (-1, 1), (-1, 1), (-1, 1)), 1, (0, 1), ((-1, 3),), 3, (2, 3)]
+>>> [least_cycle(SEVEN), least_cycle(FOUR), least_cycle(LEGS)]
+[(6, 3, 2, 1), (2, 1, 1, 1, 1), (3, 1, 1, 1, 1, 1)]
+>>> [worth(SEVEN, (6, 3, 2, 1)), worth(FOUR, (2, 1, 1, 1, 1)), worth(LEGS, (3, 1, 1, 1, 1, 1)), depth_of(SEVEN), depth_of(FOUR), depth_of(LEGS), depth_of(Tree.line((2, 2)))]
+[0, 0, -1, 'even', 'even', 'deep', 'tame']
+>>> [even_row(SEVEN), even_row(FOUR), k_row(FOUR) == ((-2, 1), (-1, 1), (-1, 1), (-1, 1), (-1, 1)), share_of(Tree.line((2, 2, 2)))]
+[(2, 1, 1, 1), (2, 1, 1, 1, 1), True, (3, 1)]
+>>> even_row(LEGS)
+raises Refused(('deep',))
+>>> k_row(Tree.line((1, 1)))
+raises Refused(('bar',))
+'''
+
+HEIGHTS = '''
+>>> from tametrees.trees.trees import Tree
+>>> TWO, THREE, LINE = Tree((2,), ()), Tree((3,), ()), Tree.line((2, 2))
+>>> EIGHT, SEVEN = Tree.star(2, ((2,), (2, 2), (2, 2, 2, 2))), Tree.star(1, ((2,), (3,), (7,)))
+>>> [odd_class(TWO, (0,)), odd_class(TWO, (2,)), odd_square(TWO, (2,)), odd_square(THREE, (1,)), odd_class(LINE, (2, 0))]
+[(0,), (1,), (-2, 1), (-1, 3), (1, 2)]
+>>> [height_path(TWO, (2,)), height_path(TWO, (-6,)), height_path(LINE, (2, 0)), height_path(LINE, (2, 2))]
+[((0,), (-2,)), ((), (-6,)), ((0, 1), (0, -2)), ((0,), (-2, 4))]
+>>> [height(TWO, (0,)), height(TWO, (1,)), [height(THREE, (number,)) for number in range(3)], height(EIGHT, (0,) * 8), height(SEVEN, (0,) * 4)]
+[(1, 4), (-1, 4), [(1, 6), (1, 6), (-1, 2)], (2, 1), (0, 1)]
+>>> [highest(TWO, (0,)), is_highest(TWO, (1,), (2,)), is_highest(TWO, (1,), (-2,)), is_highest(TWO, (1,), (-6,)), is_highest(TWO, (1,), (0,))]
+[(0,), True, True, False, False]
+>>> odd_class(THREE, (2,))
+raises InvalidRow
+>>> height(TWO, (2,))
+raises InvalidClass
+'''
+
+PIECES = '''
+>>> SEVEN, THREE, WIDE = Tree.star(1, ((2,), (3,), (7,))), Tree((3,), ()), Tree.star(4, ((2,),) * 7)
+>>> ZERO, NIL = (0,) * 4, (0,) * 8
+>>> [worth_in(SEVEN, ZERO, (6, 3, 2, 1)), worth_in(SEVEN, ZERO, (1, 1, 1, 1)), worth_in(THREE, (1,), (1,)), worth_in(THREE, (2,), (-1,))]
+[0, 1, 2, 0]
+>>> [least_level(SEVEN, ZERO), len(low_rows(SEVEN, ZERO, 0)), len(low_rows(SEVEN, ZERO, 1)), [len(piece) for piece in low_pieces(SEVEN, ZERO, 0)]]
+[0, 16, 80, [8, 8]]
+>>> [low_pieces(SEVEN, ZERO, 0)[0][-1], low_pieces(SEVEN, ZERO, 0)[1][0]]
+[(0, 0, 0, 0), (2, 1, 1, 1)]
+>>> [piece_counts(SEVEN, ZERO, 2), stair_code(SEVEN, ZERO, 1), leaf_count(SEVEN, ZERO, 1), stair_code(SEVEN, ZERO, 0), stair_code(SEVEN, ZERO, -1)]
+[(2, 1, 1), (1, 0, 0), 2, (0, 0), ()]
+>>> [low_rows(THREE, (0,), 2), low_rows(THREE, (1,), 1), low_rows(THREE, (2,), 0), piece_counts(THREE, (2,), 2), stair_code(THREE, (0,), 1)]
+[((-1,), (0,), (1,)), ((-1,), (0,)), ((-1,), (0,)), (1, 1, 1), (1, 0)]
+>>> [least_level(WIDE, NIL), piece_counts(WIDE, NIL, 0), leaf_count(WIDE, NIL, 0), stair_code(WIDE, NIL, 0), low_rows(WIDE, NIL, -1)]
+[-1, (1, 3), 3, (0, 0, 0, -1), ((2, 1, 1, 1, 1, 1, 1, 1),)]
+>>> low_rows(SEVEN, ZERO, 10 ** 50)
+raises TooMany(2000)
+'''
+
+
 def steps_of(text):
     """The pairs (what is asked, what is told) of a text of examples; nothing is told of an assignment."""
     steps = []

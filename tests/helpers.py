@@ -1,10 +1,15 @@
 """What several tests share: odd values, checks of errors, and trees told by slow and plain ways."""
 
 import copy
+import functools
 import itertools
 import random
 
+from fractions import Fraction
+
 from tametrees import errors
+from tametrees.trees.definite import determinant_of, is_definite
+from tametrees.trees.kin import put_at_place, put_at_tie
 from tametrees.trees.trees import Tree, made_tree
 
 BIG = 10 ** 60 - 1
@@ -155,3 +160,108 @@ def press_by_ties(tree, row):
 def pair(fraction):
     """The pair of a Fraction or an int."""
     return (fraction.numerator, fraction.denominator)
+
+
+def definite_trees(seed, count, sizes, low, high, most=None):
+    """Definite trees that a seeded source makes, with a determinant of at most `most` if it is told."""
+    source = random.Random(seed)
+    found = []
+    while len(found) < count:
+        tree = random_tree(source, source.choice(sizes), low, high)
+        if is_definite(tree) and (most is None or determinant_of(tree) <= most):
+            found.append(tree)
+    return found
+
+
+def put_up_often(source, tree, many):
+    """The tree with so many more places, put up where a seeded source says."""
+    for _ in range(many):
+        if tree.ties and source.random() < 0.6:
+            tree = put_at_tie(tree, *source.choice(tree.ties))
+        else:
+            tree = put_at_place(tree, source.randrange(tree.size))
+    return tree
+
+
+def put_up_to_sum(total, extra):
+    """A tree that is kin to the lone place with 1, and a row of it whose entries add up to `total`.
+
+    The entry at a new place is the entry at the place, or the sum of both at the tie, and `extra`.
+    """
+    tree, row = Tree((1,), ()), [1]
+    while sum(row) < total:
+        rest = total - sum(row)
+        choices = [(row[place] + extra, (place,)) for place in range(tree.size)]
+        choices += [(row[low] + row[high] + extra, (low, high)) for low, high in tree.ties]
+        entry, beside = max(choice for choice in choices if choice[0] <= rest and rest - choice[0] not in range(1, extra + 1))
+        tree = put_at_place(tree, *beside) if len(beside) == 1 else put_at_tie(tree, *beside)
+        row.append(entry)
+    return tree, tuple(row)
+
+
+def wild_trees():
+    """Trees that are definite but not tame, even ones and deep ones, of one to eight places."""
+    stars = [
+        (1, (2, 3, 7)), (1, (2, 3, 8)), (1, (3, 3, 4)), (1, (2, 4, 5)), (1, (3, 4, 5)), (1, (2, 3, 13)), (1, (5, 5, 5)),
+        (2, (2, 2, 2, 3)), (2, (3, 3, 3, 3)), (2, (2, 3, 3, 3)), (2, (3, 3, 3, 3, 3)), (2, (3, 3, 3, 3, 4)), (3, (2, 2, 2, 2, 2)),
+        (3, (3, 3, 3, 3, 3, 3)), (4, (2,) * 7), (2, (2, 3, 7, 60)), (1, (4, 4, 4)), (3, (4, 4, 4, 4, 4, 4, 4)),
+    ]
+    found = [Tree.star(middle, tuple((leg,) for leg in legs)) for middle, legs in stars]
+    found += [
+        Tree.star(1, ((2,), (3,), (7, 2))), Tree.star(2, ((2, 2), (2, 2), (2, 3))), Tree.star(2, ((2,), (2, 2, 2), (2, 2, 3))),
+        Tree.star(2, ((2,), (2,), (2, 3), (2,))), Tree.star(2, ((2,), (2,), (3,), (2, 2))), Tree((2, 2, 2, 2, 3, 2, 2), ((0, 1), (0, 2), (0, 3), (0, 4), (4, 5), (4, 6))),
+        Tree((2, 3, 3, 3, 4, 2, 2), ((0, 1), (0, 2), (0, 3), (0, 4), (4, 5), (4, 6))),
+    ]
+    return [tree for tree in found if is_definite(tree)]
+
+
+def units(tree):
+    """The rows e(0), e(1), .."""
+    return [tuple(int(place == other) for other in range(tree.size)) for place in range(tree.size)]
+
+
+def fractions_of(row):
+    """The Fractions of a row of integers and pairs."""
+    return [Fraction(*entry) if isinstance(entry, tuple) else Fraction(entry) for entry in row]
+
+
+@functools.lru_cache(maxsize=None)
+def _undone_by_elimination(numbers, ties):
+    """The rows, as Fractions, with the press 1 at one place and 0 elsewhere: by Gauss steps on the table."""
+    size = len(numbers)
+    rows = [[Fraction(entry) for entry in row] + [Fraction(int(at == place)) for at in range(size)]
+            for place, row in enumerate(made_tree(numbers, ties).table)]
+    for at in range(size):
+        spot = next(row for row in range(at, size) if rows[row][at] != 0)
+        rows[at], rows[spot] = rows[spot], rows[at]
+        rows[at] = [entry / rows[at][at] for entry in rows[at]]
+        for row in range(size):
+            if row != at and rows[row][at] != 0:
+                rows[row] = [entry - rows[row][at] * above for entry, above in zip(rows[row], rows[at])]
+    return [row[size:] for row in rows]
+
+
+def row_by_presses(tree, presses):
+    """The row, as Fractions, that has these presses."""
+    return [sum((entry * press for entry, press in zip(row, presses)), Fraction(0))
+            for row in _undone_by_elimination(tree.numbers, tree.ties)]
+
+
+def k_by_elimination(tree):
+    """The row K, as Fractions."""
+    return row_by_presses(tree, [number - 2 for number in tree])
+
+
+def worth_by_k(tree, row):
+    """The worth of a row of integers or Fractions, as [0.14] tells it."""
+    return -product_by_ties(tree, row, [entry + more for entry, more in zip(row, k_by_elimination(tree))]) / 2
+
+
+def worth_by_numbers(tree, row):
+    """The worth of a row of integers as [9.1] tells it."""
+    total = sum(Fraction(number * x * x - (number - 2) * x, 2) for number, x in zip(tree.numbers, row))
+    return total - sum(row[low] * row[high] for low, high in tree.ties)
+
+
+def is_at_or_above(row, other):
+    return all(x >= y for x, y in zip(row, other))

@@ -1,13 +1,16 @@
-"""The conventions, words and statements that hold for every module: [0.1] to [0.13], and [0.17]."""
+"""The conventions, words and statements that hold for every module: [0.1] to [0.14], [0.17], [0.18], [0.20] and [0.21]."""
 
 import copy
 import unittest
 
 from tametrees.base import fractions, tables
 from tametrees.errors import (
-    InvalidClass, InvalidFraction, InvalidNumber, InvalidOperation, InvalidRow, InvalidTable, InvalidTree, Refused,
+    InvalidClass, InvalidFraction, InvalidNumber, InvalidOperation, InvalidRow, InvalidTable, InvalidTree, Refused, TooMany,
 )
-from tametrees.trees import definite, duals, groups, trees
+from tametrees.low import pieces
+from tametrees.odd import heights
+from tametrees.rows import depth, steps, tame, twos
+from tametrees.trees import chains, definite, duals, groups, kin, trees
 from tametrees.trees.trees import Tree, likenesses
 from tests.helpers import (
     BIG, LONG, NO_VALUE, TOO_BIG, check_error, check_same, made_line, made_star, odd_values, plain, random_trees,
@@ -18,7 +21,10 @@ CLASS = groups.classes_of(LINE)[1]
 FORTY = made_line((LONG,) + (99,) * 39)
 REFUSALS = (
     InvalidTree, InvalidRow, InvalidOperation, InvalidFraction, InvalidNumber, InvalidTable, InvalidClass, Refused,
+    TooMany,
 )
+TWOS, ODD = Tree.star(2, ((2,), (2,), (2,))), (2, 3, 0)
+WILD, ONE = Tree.star(2, ((2,), (2,), (2,), (3,))), Tree((1,), ())
 
 
 def good_calls():
@@ -43,6 +49,37 @@ def good_calls():
         (groups.boxed_row, (LINE, CLASS)), (groups.place_class, (LINE, 1)), (groups.class_sum, (LINE, CLASS, CLASS)),
         (groups.class_opposite, (LINE, CLASS)), (groups.class_order, (LINE, CLASS)),
         (groups.class_product, (LINE, CLASS, CLASS)), (groups.class_factors, (LINE,)), (groups.halves_of, (LINE,)),
+    ] + calls_of_kin_and_chains() + calls_of_rows() + calls_of_classes()
+
+
+def calls_of_kin_and_chains():
+    line = Tree.line((2, 1, 3))
+    return [
+        (kin.takeable, (line,)), (kin.taken_down, (line, 1)), (kin.put_at_place, (LINE, 1)), (kin.put_at_tie, (LINE, 2, 1)),
+        (kin.least_tree, (line,)), (kin.are_kin, (line, ONE)), (kin.kin_paper, (line, ONE)), (kin.kin_paper, (LINE, ONE)),
+        (kin.is_kin_paper, (line, ONE, ("kin", (1, 0), (), (0,)))), (chains.chain_numbers, (7, 3)),
+        (chains.chain_fraction, ((3, 2, 2),)), (chains.turned_chain, ((3, 2, 2),)), (chains.beside_chain, ((3, 2, 2),)),
+        (chains.joined_chain, ((3, 2, 2),)), (chains.chain_down, ((3, 1, 2),)), (chains.saw_sum, (3, 7)), (chains.chain_share, (7, 3)),
+    ]
+
+
+def calls_of_rows():
+    return [
+        (steps.is_quiet, (LINE, (1, (1, 2), 0))), (steps.quiet_above, (LINE, (1, (1, 2), 0))), (steps.steps_above, (LINE, (1, (1, 2), 0))),
+        (steps.is_steps, (LINE, (1, 0, 0), (1, 2))), (steps.least_cycle, (LINE,)), (tame.worth, (LINE, (1, 2, 3))), (tame.is_tame, (LINE,)),
+        (tame.tame_paper, (LINE,)), (tame.tame_paper, (WILD,)), (tame.is_tame_paper, (LINE, ("steps", (0, 1, 2)))), (tame.least_sink, (WILD,)),
+        (tame.is_least_sink, (WILD, (2, 1, 1, 1, 1))), (tame.multiplicity, (LINE,)), (twos.twos_kind, (TWOS,)), (twos.two_rows, (TWOS,)),
+        (twos.two_count, (TWOS,)), (twos.greatest_two, (TWOS,)), (twos.two_heights, (TWOS,)), (depth.k_row, (LINE,)), (depth.k_multiple, (LINE,)),
+        (depth.share_of, (LINE,)), (depth.depth_of, (LINE,)), (depth.even_row, (WILD,)),
+    ]
+
+
+def calls_of_classes():
+    return [
+        (heights.odd_class, (LINE, ODD)), (heights.odd_square, (LINE, ODD)), (heights.height_path, (LINE, ODD)), (heights.height, (LINE, CLASS)),
+        (heights.highest, (LINE, CLASS)), (heights.is_highest, (LINE, CLASS, ODD)), (pieces.worth_in, (LINE, CLASS, (1, 2, 3))),
+        (pieces.least_level, (LINE, CLASS)), (pieces.low_rows, (LINE, CLASS, 2)), (pieces.low_pieces, (LINE, CLASS, 2)),
+        (pieces.piece_counts, (LINE, CLASS, 2)), (pieces.stair_code, (LINE, CLASS, 2)), (pieces.leaf_count, (LINE, CLASS, 2)),
     ]
 
 
@@ -73,7 +110,7 @@ class Conventions(unittest.TestCase):
         for call, values in good_calls():
             self.assertTrue(has_only_plain_kinds(call(*values)), call)
             for at, value in enumerate(values):
-                if isinstance(value, tuple) and "is_" not in call.__name__:
+                if isinstance(value, tuple) and not call.__name__.startswith(("is_", "are_")):
                     changed = values[:at] + (list(value),) + values[at + 1:]
                     with self.assertRaises(REFUSALS):
                         call(*changed)
@@ -128,7 +165,13 @@ class Conventions(unittest.TestCase):
                 self.assertIs(type(trees.is_likeness(tree, tree, value)), bool)
                 self.assertIs(type(definite.is_definite_paper(tree, value)), bool)
                 self.assertIs(type(duals.is_dual(tree, value)), bool)
+            for tree in (LINE, FORTY, WILD):
+                self.assertIs(type(kin.is_kin_paper(tree, ONE, value)), bool)
+                self.assertIs(type(steps.is_steps(tree, (1,) * tree.size, value)), bool)
+                self.assertIs(type(tame.is_tame_paper(tree, value)), bool)
+                self.assertIs(type(tame.is_least_sink(tree, value)), bool)
             self.assertIs(type(groups.is_class(LINE, value)), bool)
+            self.assertIs(type(heights.is_highest(LINE, CLASS, value)), bool)
         self.assertIs(type(trees.are_alike(LINE, FORTY)), bool)
 
     def test_0_7_the_first_wrong_argument_is_told(self):
@@ -139,6 +182,12 @@ class Conventions(unittest.TestCase):
             check_error(self, InvalidOperation, NO_VALUE, trees.renamed, LINE, wrong)
         check_error(self, InvalidNumber, -1, LINE.with_number, -1, -2)
         check_error(self, InvalidNumber, -2, LINE.with_number, 1, -2)
+        check_error(self, InvalidTree, NO_VALUE, kin.put_at_tie, None, -1, -2)
+        check_error(self, InvalidNumber, -1, kin.put_at_tie, LINE, -1, -2)
+        check_error(self, InvalidNumber, -2, kin.put_at_tie, LINE, 1, -2)
+        check_error(self, InvalidTree, NO_VALUE, pieces.low_rows, None, None, None)
+        check_error(self, InvalidClass, NO_VALUE, pieces.low_rows, LINE, None, None)
+        check_error(self, InvalidNumber, None, pieces.low_rows, LINE, CLASS, None)
         check_error(self, InvalidNumber, "a", fractions.lowest, "a", "b")
         check_error(self, InvalidNumber, "b", fractions.lowest, 1, "b")
 
@@ -206,6 +255,35 @@ class Words(unittest.TestCase):
                 check_same(self, row, tuple(fractions.lowest(part, whole) for part in class_))
                 self.assertIs(duals.is_dual(tree, row), True)
                 self.assertTrue(all(fractions.compare(0, entry) <= 0 and fractions.compare(entry, 1) < 0 for entry in row))
+
+    def test_0_14_k_and_worths(self):
+        for tree in random_trees(25, 40, range(1, 9), 1, 4):
+            if definite.is_definite(tree):
+                k = depth.k_row(tree)
+                check_same(self, tree.press(k), tuple((number - 2, 1) for number in tree))
+                for place in range(tree.size):
+                    unit = tuple(int(place == other) for other in range(tree.size))
+                    check_same(self, tame.worth(tree, unit), 1)
+
+    def test_0_18_each_definite_tree_has_one_of_two_papers(self):
+        for tree in random_trees(26, 60, range(1, 9), 1, 4) + [WILD, TWOS, ONE]:
+            if definite.is_definite(tree):
+                word, shown = tame.tame_paper(tree)
+                self.assertEqual(word, "steps" if tame.is_tame(tree) else "sink")
+                self.assertIs(tame.is_tame_paper(tree, (word, shown)), True)
+                self.assertIs(tame.is_tame_paper(tree, ("sink" if word == "steps" else "steps", shown)), False)
+
+    def test_0_20_one_least_tree(self):
+        for tree in random_trees(27, 60, range(1, 9), 1, 3):
+            if definite.is_definite(tree):
+                for place in kin.takeable(tree):
+                    self.assertIs(trees.are_alike(kin.least_tree(kin.taken_down(tree, place)), kin.least_tree(tree)), True)
+
+    def test_0_21_what_is_not_true(self):
+        self.assertTrue(TWOS[0] < TWOS.degrees[0] and tame.is_tame(TWOS))
+        one, other = Tree((1, 2, 3, 7), ((0, 1), (0, 2), (0, 3))), Tree.line((2, 2, 2, 1))
+        self.assertEqual((definite.determinant_of(one), definite.determinant_of(other), one.size), (1, 1, other.size))
+        self.assertIs(kin.are_kin(one, other), False)
 
     def test_0_17_each_tree_has_one_of_two_papers(self):
         for tree in random_trees(24, 40, range(1, 13), 0, 3) + [FORTY]:

@@ -48,6 +48,15 @@ INTERFACE = {
     "trees.duals": "path_between left_determinant undone_entry dual_row is_dual",
     "trees.groups": "MAX_CLASSES is_class classes_of class_of boxed_row place_class class_sum class_opposite class_order "
                     "class_product class_factors halves_of",
+    "trees.kin": "MAX_PLACES takeable taken_down put_at_place put_at_tie least_tree are_kin kin_paper is_kin_paper",
+    "trees.chains": "MAX_CHAIN MAX_TOP chain_numbers chain_fraction turned_chain beside_chain joined_chain chain_down "
+                    "saw_sum chain_share",
+    "rows.steps": "MOST_STEPS is_quiet quiet_above steps_above is_steps least_cycle",
+    "rows.tame": "worth is_tame tame_paper is_tame_paper least_sink is_least_sink multiplicity",
+    "rows.twos": "twos_kind two_rows two_count greatest_two two_heights",
+    "rows.depth": "DEPTHS k_row k_multiple share_of depth_of even_row",
+    "odd.heights": "MOST_PRESSES MOST_STEPS odd_class odd_square height_path height highest is_highest",
+    "low.pieces": "MAX_LOW MAX_LEVELS worth_in least_level low_rows low_pieces piece_counts stair_code leaf_count",
 }
 
 

@@ -81,3 +81,14 @@ def _press(numbers, near, row, place):
 def product_of(numbers, near, one, other):
     """The product of two rows of integers."""
     return sum([entry * press for entry, press in zip(one, presses_of(numbers, near, other))])
+
+
+def worth_of(numbers, near, row):
+    """The worth of a row of integers: the opposite of half of its product with itself and K added."""
+    with_k = sum([(number - 2) * entry for number, entry in zip(numbers, row)])
+    return -(product_of(numbers, near, row, row) + with_k) // 2
+
+
+def unit_row(place, size):
+    """The row with 1 at a place, and 0 elsewhere."""
+    return (0,) * place + (1,) + (0,) * (size - 1 - place)

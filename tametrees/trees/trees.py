@@ -1,6 +1,6 @@
 """Trees with an integer at each place, their codes and their likenesses."""
 
-from tametrees.base.fractions import is_number
+from tametrees.base.fractions import is_integer, is_number
 from tametrees.base.kinds import are_indices, is_index, is_order, is_whole_within
 from tametrees.base.ratios import ratio, with_common_bottom
 from tametrees.errors import InvalidNumber, InvalidOperation, InvalidRow, InvalidTree
@@ -168,6 +168,14 @@ def check_number_row(tree, value):
         raise InvalidRow("a row is a tuple that has an entry for each place")
     if not all([is_number(part) for part in value]):
         raise InvalidRow("the entries of this row are integers or fractions")
+
+
+def check_row(tree, value):
+    """The check of an argument that is a row of integers of the tree."""
+    if not isinstance(value, tuple) or len(value) != len(tree):
+        raise InvalidRow("a row is a tuple that has an entry for each place")
+    if not all([is_integer(part) for part in value]):
+        raise InvalidRow("the entries of this row are integers")
 
 
 def tree_code(tree):

@@ -1,0 +1,1 @@
+"""Rows of a low worth in a class, and their pieces."""

@@ -1,0 +1,1 @@
+"""Odd rows of trees, and the heights of classes."""

@@ -1,0 +1,1 @@
+"""Steps up to quiet rows, tame trees, and what their rows tell."""
