@@ -353,5 +353,93 @@ class Calls(unittest.TestCase):
                     self.assertTrue(any(node is part for part in fine), (file, node.lineno))
 
 
+class Loops(unittest.TestCase):
+    def test_what_a_loop_walks_is_not_changed_in_it(self):
+        for file in FILES:
+            for function in functions(parsed(file)):
+                self.assertEqual(changed_while_walked(function), [], (file, function.name))
+
+    def test_the_check_finds_what_the_rule_bars(self):
+        wrong = (
+            "for x in xs:\n  xs.append(x)", "for x in enumerate(xs):\n  xs[0] = x", "for x in b.rows:\n  b.rows.pop()",
+            "for x in (xs if c else ys):\n  ys.append(x)", "for x in xs or ys:\n  ys += [x]", "ys = xs\nfor x in xs:\n  ys.clear()",
+            "while True:\n  ys = []\n  for x in xs:\n    ys.extend(x)\n  xs = ys", "for x in xs[0]:\n  xs[0].append(x)",
+            "out = [ys.append(x) for x in ys]", "for x in xs:\n  del xs[0]", "for x in reversed(xs):\n  if x:\n    xs.remove(x)",
+        )
+        right = (
+            "for x in list(xs):\n  xs.append(x)", "for x in xs:\n  ys.append(x)", "for x in sorted(xs):\n  xs.pop()",
+            "for x in b.rows:\n  c.lines.append(x)", "ys = list(xs)\nfor x in xs:\n  ys.append(x)", "for x in range(len(xs)):\n  xs[x] = 0",
+        )
+        for text in wrong + right:
+            lines = "".join(f"  {line}\n" for line in text.splitlines())
+            function = ast.parse("def f(xs, ys, b, c):\n" + lines).body[0]
+            self.assertEqual(bool(changed_while_walked(function)), text in wrong, text)
+
+
+CHANGING = set("append clear extend insert pop remove reverse setdefault update sort add discard".split())
+PASSING_ON = ("enumerate", "zip", "reversed")
+
+
+def walked(node):
+    """What a loop walks, as it is written: names, attributes and items, not what a call makes anew."""
+    if isinstance(node, ast.IfExp):
+        return walked(node.body) + walked(node.orelse)
+    if isinstance(node, ast.BoolOp):
+        return [part for value in node.values for part in walked(value)]
+    if isinstance(node, ast.Call) and isinstance(node.func, ast.Name) and node.func.id in PASSING_ON:
+        return [part for value in node.args for part in walked(value)]
+    if isinstance(node, ast.Call) and isinstance(node.func, ast.Attribute) and node.func.attr in ("items", "keys", "values"):
+        return walked(node.func.value)
+    return [node] if isinstance(node, (ast.Name, ast.Attribute, ast.Subscript)) else []
+
+
+def names_of_one_list(function):
+    """For each name the set of the names that are given the very same value somewhere in the function."""
+    groups = {}
+    for node in ast.walk(function):
+        if isinstance(node, ast.Assign):
+            for target in node.targets:
+                for part in walked(node.value):
+                    if isinstance(target, ast.Name) and isinstance(part, ast.Name):
+                        joined = groups.get(target.id, {target.id}) | groups.get(part.id, {part.id})
+                        groups.update({name: joined for name in joined})
+    return groups
+
+
+def changed_parts(nodes):
+    """What some statements change: the lists that are told by a call, an item, `del` or a sign."""
+    found = []
+    for node in [part for node in nodes for part in ast.walk(node)]:
+        if isinstance(node, ast.Call) and isinstance(node.func, ast.Attribute) and node.func.attr in CHANGING:
+            found.append(node.func.value)
+        if isinstance(node, ast.Subscript) and isinstance(node.ctx, (ast.Store, ast.Del)):
+            found.append(node.value)
+        if isinstance(node, ast.AugAssign):
+            found.append(node.target)
+    return found
+
+
+def changed_while_walked(function):
+    """The lines of loops that change what they walk, by its name, by another name of it, by a field or an item."""
+    groups = names_of_one_list(function)
+
+    def told(node):
+        if isinstance(node, ast.Name):
+            return groups.get(node.id, {node.id})
+        # An attribute of that name of another object counts, too.
+        return {"." + node.attr} if isinstance(node, ast.Attribute) else {ast.unparse(node)}
+
+    found = []
+    for node in ast.walk(function):
+        loops = [(node.iter, node.body)] if isinstance(node, ast.For) else []
+        if isinstance(node, (ast.ListComp, ast.SetComp, ast.DictComp)):
+            loops = [(line.iter, [node]) for line in node.generators]
+        for iterated, body in loops:
+            held = [name for part in walked(iterated) for name in told(part)]
+            changed = [name for part in changed_parts(body) for name in told(part)]
+            found.extend(node.lineno for name in held if name in changed)
+    return found
+
+
 if __name__ == "__main__":
     unittest.main()

@@ -109,16 +109,22 @@ def rows_of_branches(slopes, level, most):
 
     Each part of a row that is made goes on to some low row, so there are never more of them than low rows.
     """
-    size = len(slopes.order)
-    begun = [(level, (0,) * size)]
+    begun = [(level, (0,) * len(slopes.order))]
     for place in slopes.order:
-        longer = []
-        for left, row in begun:
-            longer.extend(_with_entries(slopes, place, (left, row), most))
-            if len(longer) > most:
-                return None
-        begun = longer
+        begun = _rows_one_longer(slopes, place, begun, most)
+        if begun is None:
+            return None
     return [(level - unused, full) for unused, full in begun]
+
+
+def _rows_one_longer(slopes, place, begun, most):
+    """The pairs of all parts of rows that have an entry at one more place, or None if there are more than `most`."""
+    longer = []
+    for left, row in begun:
+        longer.extend(_with_entries(slopes, place, (left, row), most))
+        if len(longer) > most:
+            return None
+    return longer
 
 
 def _with_entries(slopes, place, begun, most):
