@@ -232,6 +232,135 @@ PIECES = '''
 raises TooMany(2000)
 '''
 
+NEAR = '''
+>>> SEVEN, STAR = Tree.star(1, ((2,), (3,), (7,))), Tree.star(2, ((2,), (2,), (2,)))
+>>> ZERO, TWO = (0, 0, 0, 0), Tree((2, 2, 2, 2, 4, 2, 2, 2, 2, 4), ((0, 1), (0, 2), (0, 3), (0, 4), (4, 9), (5, 6), (5, 7), (5, 8), (5, 9)))
+>>> [near_places(SEVEN), near_places(STAR), near_places(TWO), tau(SEVEN, 0, ZERO, 13)]
+[(0,), (0, 1, 2, 3), (), (0, 1, 0, 0, 0, 0, 0, 1, 1, 1, 1, 1, 1, 2)]
+>>> [lifted_row(SEVEN, 0, ZERO, 2), lifted_row(SEVEN, 0, ZERO, 7), tau(STAR, 0, ZERO, 3), tau(STAR, 1, ZERO, 3)]
+[(2, 1, 1, 1), (7, 4, 3, 1), (0, 1, 1, 3), (0, 1, 2, 5)]
+>>> [tau_code(SEVEN, 0, ZERO, 1), tau_code(SEVEN, 0, ZERO, 0), tau_code(SEVEN, 0, ZERO, -1), near_count(SEVEN, 0, ZERO), near_count(STAR, 2, (0, 2, 2, 0))]
+[(1, 0, 0), (0, 0), (), 1, 0]
+>>> near_count(SEVEN, 1, ZERO)
+raises Refused(("near",))
+'''
+
+STARS = '''
+>>> from tametrees.trees.trees import Tree
+>>> HALVES = ((2, 1), (3, 1), (7, 1))
+>>> [star_tree(1, HALVES) == Tree((1, 2, 3, 7), ((0, 1), (0, 2), (0, 3))), star_tree(3, ((5, 3), (2, 1))) == Tree((3, 2, 3, 2), ((0, 1), (0, 3), (1, 2)))]
+[True, True]
+>>> [is_star_definite(1, HALVES), is_star_definite(1, ((2, 1), (3, 1), (6, 1))), is_star_definite(0, ()), star_tree(5, ()) == Tree((5,), ())]
+[True, False, False, True]
+>>> [star_tau(1, HALVES, 8), star_tau(2, ((2, 1), (3, 2), (5, 4)), 6)]
+[(0, 1, 0, 0, 0, 0, 0, 1, 1), (0, 1, 1, 1, 1, 1, 1)]
+>>> [star_count(1, HALVES), star_count(2, ((2, 1), (3, 2), (5, 4))), triple_star(2, 3, 7), triple_star(2, 3, 5)]
+[1, 0, (1, ((2, 1), (3, 1), (7, 1))), (2, ((2, 1), (3, 2), (5, 4)))]
+>>> [triple_count(2, 3, 5), triple_count(2, 3, 7), triple_count(2, 3, 11), triple_count(2, 3, 13), triple_count(3, 4, 5)]
+[0, 1, 1, 2, 2]
+>>> triple_star(2, 3, 4)
+raises InvalidOperation
+>>> star_count(1, ((2, 1), (2, 1)))
+raises Refused(('bar',))
+'''
+
+BOXES = '''
+>>> from tametrees.trees.trees import Tree
+>>> TIES, ONE3 = ((0, 1), (0, 2), (0, 3)), Tree((3,), ())
+>>> SEVEN, THIRD = Tree((1, 2, 3, 7), TIES), Tree((1, 2, 3, 13), TIES)
+>>> [sure_box(ONE3, (0,)), sure_box(ONE3, (2,)), sure_box(SEVEN, (0, 0, 0, 0)), sure_box(THIRD, (1, 4, 5, 6))]
+[((0,), (1,)), ((0,), (0,)), ((0, 0, 0, 0), (2, 1, 1, 1)), ((5, 2, 1, 0), (7, 3, 2, 1))]
+>>> [box_count(ONE3, (0,), (0,), (1,)), box_count(ONE3, (0,), (-2,), (3,)), box_count(SEVEN, (0, 0, 0, 0), (0, 0, 0, 0), (1, 1, 1, 1))]
+[0, 0, 0]
+>>> [class_count(ONE3, (0,)), class_count(SEVEN, (0, 0, 0, 0)), class_count(THIRD, (0, 0, 0, 0)), class_count(THIRD, (1, 4, 5, 6))]
+[0, 1, 1, 1]
+>>> [euler_numbers(ONE3, (0,), 2), euler_numbers(SEVEN, (0, 0, 0, 0), 2), euler_numbers(THIRD, (1, 4, 5, 6), 0), euler_numbers(SEVEN, (0, 0, 0, 0), -1)]
+[(0, (1, 1, 1)), (0, (2, 1, 1)), (-1, (1, 1)), (0, ())]
+>>> box_count(ONE3, (0,), (1,), (0,))
+raises InvalidOperation
+>>> class_count(ONE3, (3,))
+raises InvalidClass
+'''
+
+SERIES = '''
+>>> from tametrees.trees.trees import Tree
+>>> TWO, LINE = Tree((2,), ()), Tree.line((2, 2))
+>>> FOUR, SEVEN = Tree.star(2, ((2,), (2,), (2,))), Tree.star(1, ((2,), (3,), (7,)))
+>>> [coefficient(TWO, (3,)), coefficient(TWO, (-1,)), coefficient(LINE, (2, 5)), coefficient(Tree.line((2, 2, 2)), (1, 1, 1)), coefficient(FOUR, (1, 0, 4, 2)), coefficient(FOUR, (2, 0, 0, 0))]
+[4, 0, 1, 0, -1, 0]
+>>> [is_far(TWO, (0,), (0,)), is_far(TWO, (0,), (-1,)), is_far(TWO, (1,), (-1,)), is_far(SEVEN, (0,) * 4, (2, 1, 1, 1)), is_far(SEVEN, (0,) * 4, (6, 3, 2, 1))]
+[True, False, False, True, False]
+>>> [left_behind(TWO, (0,), (3,)), left_behind(TWO, (1,), (2,)), left_behind(TWO, (0,), (0,)), left_behind(SEVEN, (0,) * 4, (2, 1, 1, 1))]
+[9, 6, 0, 1]
+>>> left_behind(TWO, (1,), (-1,))
+raises InvalidOperation
+'''
+
+NUMBER = '''
+>>> from tametrees.trees.trees import Tree
+>>> EIGHT, SEVEN = Tree.star(2, ((2,), (2, 2), (2, 2, 2, 2))), Tree.star(1, ((2,), (3,), (7,)))
+>>> ONE, TWO, THREE = Tree((1,), ()), Tree((2,), ()), Tree((3,), ())
+>>> [number_by_table(tree) for tree in (ONE, TWO, THREE, EIGHT, SEVEN, Tree.line((2, 1)))]
+[(0, 1), (0, 1), (-2, 3), (24, 1), (24, 1), (0, 1)]
+>>> [number_by_classes(tree) for tree in (ONE, TWO, THREE, EIGHT, SEVEN)]
+[(0, 1), (0, 1), (-2, 3), (24, 1), (24, 1)]
+>>> [list(class_shares(THREE).values()), list(class_shares(TWO).values()), list(class_shares(EIGHT).values()), list(class_shares(SEVEN).values())]
+[[(1, 12), (1, 12), (-1, 4)], [(1, 8), (-1, 8)], [(1, 1)], [(1, 1)]]
+>>> [number_by_table(Tree.line((3, 2, 2))), class_share(THREE, (2,)), class_share(TWO, (1,)), list(class_shares(THREE))]
+[(6, 7), (-1, 4), (-1, 8), [(0,), (1,), (2,)]]
+>>> number_by_table(Tree((0,), ()))
+raises Refused(('bar',))
+'''
+
+HALVES = '''
+>>> FORK, SEVEN = Tree((2, 2, 2, 2), ((0, 1), (0, 2), (0, 3))), Tree.star(1, ((2,), (3,), (7,)))
+>>> [wu_lots(Tree.line((2, 2, 2))), wu_lots(FORK), wu_lots(SEVEN), wu_lots(Tree((3,), ())), wu_lots(Tree((0,), ()))]
+[((), (0, 2)), ((), (1, 2), (1, 3), (2, 3)), ((1, 2, 3),), ((0,),), ((), (0,))]
+>>> [wu_number(Tree.line((2, 2, 2)), ()), wu_number(Tree.line((2, 2, 2)), (0, 2)), wu_number(SEVEN, (1, 2, 3)), wu_number(Tree((3,), ()), (0,))]
+[-3, 1, 8, 2]
+>>> [wu_class(Tree.line((2, 2, 2)), ()), wu_class(Tree.line((2, 2, 2)), (0, 2)), wu_class(Tree((3,), ()), (0,)), wu_class(SEVEN, (1, 2, 3))]
+[(0, 0, 0), (2, 0, 2), (2,), (0, 0, 0, 0)]
+>>> [is_wu_lot(FORK, (1, 2)), is_wu_lot(FORK, (0,)), is_wu_lot(FORK, (2, 1)), is_wu_lot(FORK, [1, 2]), is_wu_lot(SEVEN, (0, 2, 3))]
+[True, False, False, False, False]
+>>> wu_number(FORK, (1,))
+raises InvalidOperation
+>>> wu_class(Tree((0,), ()), ())
+raises Refused(('bar',))
+'''
+
+DESK = '''
+>>> desk = Desk()
+>>> [desk.keep("a", Tree((2, 2), ((0, 1),))), desk.promise("d", ("determinant", "a", 3)), desk.promise("t", ("tame", "a")), desk.put_up("a", 0), desk.tree("a").numbers, str(desk)]
+[1, 2, 3, 4, (3, 2, 1), 'desk of 1 trees, 2 promises']
+>>> [desk.put_up("a", 0, 1), desk.tree("a").numbers, desk.undo(times=2), desk.redo(), desk.keep("b", Tree((2,), ())), "b" in desk, desk.names, desk.labels]
+[5, (4, 3, 1, 1), 3, 4, 5, True, ('a', 'b'), ('d', 't')]
+>>> desk.raise_number("a", 1)
+raises Refused(('promise', 'd'))
+>>> [desk.release("d"), desk.raise_number("a", 1, by=4), desk.tree("a").numbers, desk.deeds, desk == desk.twin()]
+[6, 7, (3, 6, 1), 7, True]
+>>> desk.promise("k", ("kin", "a", "b"))
+raises Refused(('promise', 'k'))
+'''
+
+TEXTS = '''
+>>> from tametrees.trees.trees import Tree
+>>> CHAIN = Tree.line((2, 1, 3))
+>>> [write_value(CHAIN, kind="tree"), write_value(Tree((5,), ()), kind="tree"), write_value((1, -2, (1, 2)), kind="row")]
+['tree 2 1 3 | 0 1 | 1 2', 'tree 5', 'row 1 -2 1/2']
+>>> [write_value((2, 1), kind="row"), write_value((2, 1), kind="fraction"), write_value(((2, 1),), kind="row"), write_value((0, 1), kind="class")]
+['row 2 1', 'fraction 2/1', 'row 2/1', 'class 0 1']
+>>> [read_value("tree 2 1 3 | 0 1 | 1 2") == CHAIN, read_value("row 1 -2 1/2"), kind_of_text("class 0"), is_text("class -1"), is_text("tree 2 2")]
+[True, (1, -2, (1, 2)), 'class', False, False]
+>>> read_value("tree 2 2")
+raises ParseError(3)
+>>> read_value("tree 2 2 | 1 0")
+raises ParseError(5)
+>>> read_value("row 4/6")
+raises ParseError(1)
+>>> write_value((1, 2), kind="fractions")
+raises UnknownName('fractions')
+'''
+
 
 def steps_of(text):
     """The pairs (what is asked, what is told) of a text of examples; nothing is told of an assignment."""

@@ -4,9 +4,13 @@ import unittest
 
 from tametrees import errors
 from tametrees.base import fractions, tables
-from tametrees.low import pieces
-from tametrees.odd import heights
+from tametrees.desk import desk
+from tametrees.low import boxes, near, pieces, stars
+from tametrees.number import number
+from tametrees.odd import halves, heights
 from tametrees.rows import depth, steps, tame, twos
+from tametrees.series import series
+from tametrees.text import texts
 from tametrees.trees import chains, definite, duals, groups, kin, trees
 from tests import examples
 
@@ -61,6 +65,30 @@ class Examples(unittest.TestCase):
 
     def test_pieces_of_low_rows(self):
         examples.run_examples(self, examples.PIECES, names_of(trees, pieces))
+
+    def test_trees_that_are_tame_but_for_one_place(self):
+        examples.run_examples(self, examples.NEAR, names_of(trees, near))
+
+    def test_stars(self):
+        examples.run_examples(self, examples.STARS, names_of(stars))
+
+    def test_boxes_and_counts(self):
+        examples.run_examples(self, examples.BOXES, names_of(boxes))
+
+    def test_the_series(self):
+        examples.run_examples(self, examples.SERIES, names_of(series))
+
+    def test_one_number(self):
+        examples.run_examples(self, examples.NUMBER, names_of(number))
+
+    def test_wu_lots(self):
+        examples.run_examples(self, examples.HALVES, names_of(trees, halves))
+
+    def test_a_desk(self):
+        examples.run_examples(self, examples.DESK, names_of(trees, desk))
+
+    def test_texts(self):
+        examples.run_examples(self, examples.TEXTS, names_of(texts))
 
 
 if __name__ == "__main__":

@@ -14,6 +14,12 @@ LIBRARY = {
     "math": ("gcd", "lcm", "isqrt", "comb", "perm", "factorial"),
     "heapq": ("heappush", "heappop", "heapify", "heapreplace", "heappushpop"),
 }
+METHODS_OF_CLASSES = {
+    ("trees.trees", "Tree"): "line star numbers ties size degrees table neighbours press product part with_number __getitem__ "
+                             "__contains__ __len__ __iter__ __eq__ __str__",
+    ("desk.desk", "Desk"): "keep put_up take_down cut raise_number drop promise release undo redo during tree promised names "
+                           "labels deeds twin __contains__ __len__ __eq__ __str__",
+}
 BUILTINS = set(
     "len range enumerate zip min max sum abs sorted reversed int str bool list tuple dict set isinstance repr any all "
     "divmod iter next Exception ValueError TypeError KeyError IndexError LookupError ZeroDivisionError ArithmeticError "
@@ -57,6 +63,14 @@ INTERFACE = {
     "rows.depth": "DEPTHS k_row k_multiple share_of depth_of even_row",
     "odd.heights": "MOST_PRESSES MOST_STEPS odd_class odd_square height_path height highest is_highest",
     "low.pieces": "MAX_LOW MAX_LEVELS worth_in least_level low_rows low_pieces piece_counts stair_code leaf_count",
+    "low.near": "MAX_LIFT MAX_LEVEL near_places lifted_row tau tau_code near_count",
+    "low.stars": "MAX_LEGS MOST_TOP MOST_TAU star_tree is_star_definite star_tau star_count triple_star triple_count",
+    "low.boxes": "MAX_CELLS sure_box box_count class_count euler_numbers",
+    "series.series": "MOST_TERMS coefficient is_far far_row left_behind",
+    "number.number": "class_share class_shares number_by_classes number_by_table",
+    "odd.halves": "MAX_LOTS wu_lots is_wu_lot wu_number wu_class",
+    "desk.desk": "MAX_KEPT MAX_PROMISES Desk",
+    "text.texts": "MAX_TEXT MAX_ENTRIES KINDS write_value kind_of_text read_value is_text",
 }
 
 
@@ -144,6 +158,24 @@ class Names(unittest.TestCase):
             defined += [node.targets[0].id for node in tree.body if isinstance(node, ast.Assign)]
             for word in words.split():
                 self.assertIn(word, defined, module)
+
+    def test_the_methods_of_the_interface_stand_in_their_classes(self):
+        for (module, name), words in METHODS_OF_CLASSES.items():
+            tree = parsed(PACKAGE / (module.replace(".", "/") + ".py"))
+            body = next(node for node in tree.body if isinstance(node, ast.ClassDef) and node.name == name).body
+            methods = [node.name for node in body if isinstance(node, ast.FunctionDef)]
+            for word in words.split():
+                self.assertIn(word, methods, name)
+
+    def test_no_name_is_a_method_and_an_attribute(self):
+        methods, kept = set(), set()
+        for file in FILES:
+            for node in ast.walk(parsed(file)):
+                if isinstance(node, ast.ClassDef):
+                    methods.update(part.name for part in node.body if isinstance(part, ast.FunctionDef))
+                if isinstance(node, ast.Attribute) and isinstance(node.ctx, ast.Store):
+                    kept.add(node.attr)
+        self.assertEqual(methods & kept, set())
 
     def test_each_name_is_bound_once_and_plain(self):
         for file in FILES:

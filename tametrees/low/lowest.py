@@ -1,9 +1,10 @@
-"""Low rows of classes of any definite tree, by those of its least tree. Nothing is checked here."""
+"""Rows of classes: their worths, the least quiet ones, and all low rows. Nothing is checked here."""
 
 from tametrees.low.slopes import Slopes, rows_of_branches
+from tametrees.rows.rises import Rise
 from tametrees.trees.definite import tree_determinant
-from tametrees.trees.kin import way_down
-from tametrees.trees.shapes import presses_of
+from tametrees.trees.kin import way_down_beside
+from tametrees.trees.shapes import presses_of, worth_of
 from tametrees.trees.trees import near_of
 
 
@@ -13,18 +14,66 @@ def presses_of_class(tree, class_):
     return tuple([press // whole for press in presses_of(tree.numbers, near_of(tree), class_)])
 
 
+def worth_in_class(tree, class_, row):
+    """The worth in a class of a row of integers: its worth, less its product with the boxed row."""
+    pressed = presses_of_class(tree, class_)
+    return worth_of(tree.numbers, near_of(tree), row) - sum([press * entry for press, entry in zip(pressed, row)])
+
+
 def rows_to_level(tree, class_, level, most):
     """The list of the pairs (worth, row) of all low rows of a class, or None if there are more than `most`."""
-    trees, places = way_down(tree)
-    classes = [class_]
-    for place in places:
-        classes.append(classes[-1][:place] + classes[-1][place + 1:])
-    least = trees[-1]
-    slopes = Slopes(least.numbers, near_of(least), presses_of_class(least, classes[-1]))
+    down = WayDown(tree, class_, None)
+    slopes = Slopes(down.left_tree.numbers, near_of(down.left_tree), presses_of_class(down.left_tree, down.class_))
     found = rows_of_branches(slopes, level, most)
-    for at in reversed(range(len(places))):
-        found = _rows_put_back(PutBack(trees[at], classes[at], places[at]), found, level, most)
+    for back in down.backs:
+        found = _rows_put_back(back, found, level, most)
     return found
+
+
+class WayDown:
+    """A tree with a class, and what is left if all places but one that is kept are taken down.
+
+    `left_tree` is the tree that is left, `class_` its class, and `kept` how the kept place is called in it, None if
+    there is none. `backs` are the ways back, from that of the place that was taken down last on.
+    """
+
+    def __init__(self, tree, class_, kept):
+        trees, places, staying = way_down_beside(tree, kept)
+        classes = [class_]
+        for gone in places:
+            classes.append(classes[-1][:gone] + classes[-1][gone + 1:])
+        backs = [PutBack(trees[at], classes[at], place) for at, place in enumerate(places)]
+        self.left_tree = trees[-1]
+        self.class_ = classes[-1]
+        self.kept = staying
+        self.backs = backs[::-1]
+
+    def row_back(self, row):
+        """The row of the tree with the same worth in its class, and the press 0 at all places that were taken down."""
+        whole_row = row
+        for back in self.backs:
+            whole_row = back.row_with(whole_row, back.middle_of(whole_row))
+        return whole_row
+
+    def apart(self, row):
+        """The row without the entries at the places that were taken down, and these entries, as `backs` stand."""
+        left = row
+        entries = []
+        for back in reversed(list(self.backs)):
+            entries.append(left[back.place])
+            left = left[:back.place] + left[back.place + 1:]
+        return left, entries[::-1]
+
+
+def quiet_row(down):
+    """The least quiet row at or above the boxed row, less the boxed row, for a way down on which no place is kept.
+
+    A quiet row has no press above 0 at the places that are taken down: without them it is quiet, too.
+    So this row has the press 0 there.
+    """
+    rise = Rise(down.left_tree.numbers, near_of(down.left_tree), presses_of_class(down.left_tree, down.class_))
+    rise.finish()
+    return down.row_back(tuple(rise.added))
 
 
 class PutBack:

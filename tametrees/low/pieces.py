@@ -2,10 +2,9 @@
 
 from tametrees.base.fractions import is_integer
 from tametrees.errors import InvalidNumber, TooMany
-from tametrees.low.lowest import presses_of_class, rows_to_level
+from tametrees.low.lowest import rows_to_level, worth_in_class
 from tametrees.trees.groups import check_class, check_classed
-from tametrees.trees.shapes import worth_of
-from tametrees.trees.trees import check_row, near_of
+from tametrees.trees.trees import check_row
 
 MAX_LOW = 2000
 MAX_LEVELS = 100
@@ -15,8 +14,7 @@ def worth_in(tree, class_, row):
     """The worth in a class of a row of integers."""
     _check_tree_and_class(tree, class_)
     check_row(tree, row)
-    pressed = presses_of_class(tree, class_)
-    return worth_of(tree.numbers, near_of(tree), row) - sum([press * entry for press, entry in zip(pressed, row)])
+    return worth_in_class(tree, class_, row)
 
 
 def least_level(tree, class_):

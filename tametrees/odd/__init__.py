@@ -1,1 +1,1 @@
-"""Odd rows of trees, and the heights of classes."""
+"""Odd rows of trees, the heights of classes, and lots of places."""

@@ -80,12 +80,19 @@ def _saw_sum_of(q, n):
 
 
 def _chain_of(n, q):
-    """The chain of n / q, for integers of any length."""
+    found = chain_within(n, q, MAX_CHAIN)
+    if found is None:
+        raise TooMany(MAX_CHAIN)
+    return found
+
+
+def chain_within(n, q, most):
+    """The chain of n / q, for integers of any length, or None if it has more than `most` integers."""
     found = []
     top, bottom = n, q
     while bottom != 0:
-        if len(found) == MAX_CHAIN:
-            raise TooMany(MAX_CHAIN)
+        if len(found) == most:
+            return None
         number = -(-top // bottom)
         found.append(number)
         top, bottom = bottom, number * bottom - top

@@ -73,14 +73,27 @@ def least_tree(tree):
 def way_down(tree):
     """The trees from a definite tree to its least tree, and the place that goes from each but the last one."""
     check_definite(tree)
+    trees, places, _ = way_down_beside(tree, None)
+    return trees, places
+
+
+def way_down_beside(tree, kept):
+    """The same, but a place that is kept does not go, and how it is called at the end; None stands for no place."""
     trees = [tree]
     places = []
-    found = takeable(tree)
+    staying = kept
+    found = _takeable_beside(tree, staying)
     while len(found) > 0:
         places.append(found[0])
         trees.append(taken_down(trees[-1], found[0]))
-        found = takeable(trees[-1])
-    return tuple(trees), tuple(places)
+        if staying is not None and found[0] < staying:
+            staying -= 1
+        found = _takeable_beside(trees[-1], staying)
+    return tuple(trees), tuple(places), staying
+
+
+def _takeable_beside(tree, kept):
+    return [place for place in takeable(tree) if place != kept]
 
 
 def are_kin(one, other):

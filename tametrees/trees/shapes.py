@@ -6,6 +6,18 @@ In this package `near` is the tuple that has, for each place, the ascending tupl
 from tametrees.base.kinds import is_ascending, is_index
 
 
+def star_parts(number, legs):
+    """The numbers and the ties of a star: the place 0 with `number`, then the places of the legs, leg by leg."""
+    numbers = [number]
+    ties = []
+    for leg in legs:
+        first = len(numbers)
+        ties.append((0, first))
+        ties.extend([(place - 1, place) for place in range(first + 1, first + len(leg))])
+        numbers.extend(leg)
+    return tuple(numbers), tuple(sorted(ties))
+
+
 def near_places(size, ties):
     """For each of `size` places the ascending tuple of the places that a tie of it leads to."""
     near = [[] for _ in range(size)]

@@ -5,12 +5,13 @@ from tametrees.trees.forests import branch_determinants
 from tametrees.trees.walks import rooted
 
 
-def row_with_presses(numbers, near, presses):
+def row_with_presses(numbers, near, presses, root=0, gone=()):
     """The row of a definite tree that has these presses, integers: a tuple of pairs.
 
     Leaf by leaf each place gives its share to its parent; then each entry is told by that of the parent.
+    If there are places `gone`, it is told for the part without them that has the root.
     """
-    order, parents = rooted(near, 0)
+    order, parents = rooted(near, root, gone)
     wholes, without = branch_determinants(numbers, order, parents)
     pivots = [ratio(whole, left) for whole, left in zip(wholes, without)]
     shares = [(-press, 1) for press in presses]

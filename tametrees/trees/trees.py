@@ -5,7 +5,7 @@ from tametrees.base.kinds import are_indices, is_index, is_order, is_whole_withi
 from tametrees.base.ratios import ratio, with_common_bottom
 from tametrees.errors import InvalidNumber, InvalidOperation, InvalidRow, InvalidTree
 from tametrees.trees.shapes import are_ties, hang_together, near_places, ties_among, ties_renamed
-from tametrees.trees.shapes import presses_of, product_of, table_of
+from tametrees.trees.shapes import presses_of, product_of, star_parts, table_of
 from tametrees.trees.walks import Branches, least_code, likenesses_from
 
 MAX_PLACES = 12
@@ -39,14 +39,8 @@ class Tree:
         """The tree of the place 0, with `number`, and of lines whose first places are tied to it."""
         if not isinstance(legs, tuple) or not all([_are_numbers(part) for part in legs]):
             raise InvalidTree("the legs of a star are a tuple of non-empty tuples of integers from 0 to 60")
-        numbers = [number]
-        ties = []
-        for leg in legs:
-            first = len(numbers)
-            ties.append((0, first))
-            ties.extend([(place - 1, place) for place in range(first + 1, first + len(leg))])
-            numbers.extend(leg)
-        return cls(tuple(numbers), tuple(sorted(ties)))
+        numbers, ties = star_parts(number, legs)
+        return cls(numbers, ties)
 
     @property
     def numbers(self):

@@ -1,0 +1,1 @@
+"""A desk that keeps trees and promises about them."""

@@ -1,0 +1,1 @@
+"""One number of a definite tree, on two roads."""

@@ -1,0 +1,1 @@
+"""The series of definite trees."""

@@ -1,0 +1,1 @@
+"""Texts of trees, rows, fractions and classes."""
