@@ -51,7 +51,7 @@ def kept_by(error):
 NO_VALUE = object()
 
 
-def check_error(case, kind, kept, call, *values, **words):
+def check_error(case, kind, kept, call, /, *values, **words):
     """The call raises just this class of error, keeps `kept`, and changes nothing that it was passed."""
     before = copy.deepcopy([part for part in values if isinstance(part, (list, dict, tuple))])
     with case.assertRaises(kind) as caught:
@@ -265,3 +265,59 @@ def worth_by_numbers(tree, row):
 
 def is_at_or_above(row, other):
     return all(x >= y for x, y in zip(row, other))
+
+
+def presses_of_boxed_row(tree, class_):
+    """The presses, integers, of the boxed row of a class."""
+    whole = determinant_of(tree)
+    return [press // whole for press in press_by_ties(tree, class_)]
+
+
+def added_by_steps(tree, presses, bounds, kept=None):
+    """What single steps add to a row with these presses until no press but that at `kept` is above its bound."""
+    left, added = [press - bound for press, bound in zip(presses, bounds)], [0] * tree.size
+    places = [place for place in range(tree.size) if place != kept and left[place] > 0]
+    while places:
+        place = places[0]
+        added[place] += 1
+        left[place] -= tree[place]
+        for other in neighbours_by_ties(tree, place):
+            left[other] += 1
+        places = [place for place in range(tree.size) if place != kept and left[place] > 0]
+    return tuple(added)
+
+
+def sum_of_rows(one, other):
+    return tuple(x + y for x, y in zip(one, other))
+
+
+def quiet_by_steps(tree, class_):
+    """The least quiet row at or above the boxed row, less the boxed row."""
+    return added_by_steps(tree, presses_of_boxed_row(tree, class_), (0,) * tree.size)
+
+
+def far_by_steps(tree, class_):
+    """The least far row above that one, less the boxed row."""
+    low = quiet_by_steps(tree, class_)
+    presses = sum_of_rows(presses_of_boxed_row(tree, class_), press_by_ties(tree, low))
+    return sum_of_rows(low, added_by_steps(tree, presses, [2 - number for number in tree]))
+
+
+def lifted_by_steps(tree, place, class_, number):
+    """x(number), less the boxed row."""
+    row = list(quiet_by_steps(tree, class_))
+    row[place] += number
+    presses = sum_of_rows(presses_of_boxed_row(tree, class_), press_by_ties(tree, row))
+    return sum_of_rows(row, added_by_steps(tree, presses, (0,) * tree.size, place))
+
+
+def worth_in_by_numbers(tree, class_, row):
+    """The worth in a class, an integer: that of the row, less its product with the boxed row."""
+    pressed = presses_of_boxed_row(tree, class_)
+    return int(worth_by_numbers(tree, row)) - sum(press * entry for press, entry in zip(pressed, row))
+
+
+def some_classes(source, tree, many, classes):
+    """The class 0 and a few other ones."""
+    others = [class_ for class_ in classes if any(class_)]
+    return [(0,) * tree.size] + source.sample(others, min(many, len(others)))
