@@ -1,15 +1,22 @@
-"""The conventions, words and statements that hold for every module: [0.1] to [0.14], [0.17], [0.18], [0.20] and [0.21]."""
+"""The conventions, words and statements that hold for every module: [0.1] to [0.14], [0.17], [0.18], [0.20] and [0.21].
+
+[0.15], [0.16] and [0.19] are tested with tame trees, pieces of low rows, and the roads to one count.
+"""
 
 import copy
 import unittest
 
 from tametrees.base import fractions, tables
 from tametrees.errors import (
-    InvalidClass, InvalidFraction, InvalidNumber, InvalidOperation, InvalidRow, InvalidTable, InvalidTree, Refused, TooMany,
+    InvalidClass, InvalidFraction, InvalidNumber, InvalidOperation, InvalidRow, InvalidTable, InvalidTree, ParseError, Refused, TooMany,
 )
-from tametrees.low import pieces
-from tametrees.odd import heights
+from tametrees.desk.desk import Desk
+from tametrees.low import boxes, near, pieces, stars
+from tametrees.number import number
+from tametrees.odd import halves, heights
 from tametrees.rows import depth, steps, tame, twos
+from tametrees.series import series
+from tametrees.text import texts
 from tametrees.trees import chains, definite, duals, groups, kin, trees
 from tametrees.trees.trees import Tree, likenesses
 from tests.helpers import (
@@ -21,8 +28,9 @@ CLASS = groups.classes_of(LINE)[1]
 FORTY = made_line((LONG,) + (99,) * 39)
 REFUSALS = (
     InvalidTree, InvalidRow, InvalidOperation, InvalidFraction, InvalidNumber, InvalidTable, InvalidClass, Refused,
-    TooMany,
+    TooMany, ParseError,
 )
+HALVES = ((2, 1), (3, 1), (7, 1))
 TWOS, ODD = Tree.star(2, ((2,), (2,), (2,))), (2, 3, 0)
 WILD, ONE = Tree.star(2, ((2,), (2,), (2,), (3,))), Tree((1,), ())
 
@@ -49,7 +57,7 @@ def good_calls():
         (groups.boxed_row, (LINE, CLASS)), (groups.place_class, (LINE, 1)), (groups.class_sum, (LINE, CLASS, CLASS)),
         (groups.class_opposite, (LINE, CLASS)), (groups.class_order, (LINE, CLASS)),
         (groups.class_product, (LINE, CLASS, CLASS)), (groups.class_factors, (LINE,)), (groups.halves_of, (LINE,)),
-    ] + calls_of_kin_and_chains() + calls_of_rows() + calls_of_classes()
+    ] + calls_of_kin_and_chains() + calls_of_rows() + calls_of_classes() + calls_of_counts() + calls_of_numbers()
 
 
 def calls_of_kin_and_chains():
@@ -83,8 +91,32 @@ def calls_of_classes():
     ]
 
 
+def calls_of_counts():
+    low, high = boxes.sure_box(LINE, CLASS)
+    return [
+        (near.near_places, (LINE,)), (near.lifted_row, (LINE, 1, CLASS, 3)), (near.tau, (LINE, 1, CLASS, 9)), (near.tau_code, (LINE, 1, CLASS, 2)),
+        (near.near_count, (LINE, 0, CLASS)), (stars.star_tree, (1, HALVES)), (stars.is_star_definite, (1, HALVES)), (stars.star_tau, (1, HALVES, 9)),
+        (stars.star_count, (1, HALVES)), (stars.triple_star, (2, 3, 7)), (stars.triple_count, (2, 3, 7)), (boxes.sure_box, (LINE, CLASS)),
+        (boxes.box_count, (LINE, CLASS, low, high)), (boxes.class_count, (LINE, CLASS)), (boxes.euler_numbers, (LINE, CLASS, 3)),
+        (series.coefficient, (LINE, (2, 0, 1))), (series.is_far, (LINE, CLASS, high)), (series.far_row, (LINE, CLASS)),
+        (series.left_behind, (LINE, CLASS, series.far_row(LINE, CLASS))),
+    ]
+
+
+def calls_of_numbers():
+    lot = halves.wu_lots(LINE)[0]
+    return [
+        (number.class_share, (LINE, CLASS)), (number.class_shares, (LINE,)), (number.number_by_classes, (LINE,)), (number.number_by_table, (LINE,)),
+        (halves.wu_lots, (LINE,)), (halves.is_wu_lot, (LINE, lot)), (halves.wu_number, (LINE, lot)), (halves.wu_class, (LINE, lot)),
+        (texts.kind_of_text, ("tree 2 1 3 | 0 1 | 1 2",)), (texts.read_value, ("tree 2 1 3 | 0 1 | 1 2",)), (texts.read_value, ("row 1 1/2",)),
+        (texts.is_text, ("class 0",)),
+    ]
+
+
 def has_only_plain_kinds(value):
-    """Whether a returned value is made of integers, booleans, strings, tuples and trees alone."""
+    """Whether a returned value is made of integers, booleans, strings, tuples and trees alone, or is a dict of such."""
+    if type(value) is dict:
+        return list(value) == sorted(value) and all(has_only_plain_kinds(part) for item in value.items() for part in item)
     if isinstance(value, tuple):
         return type(value) is tuple and all(has_only_plain_kinds(part) for part in value)
     return type(value) in (int, bool, str, Tree)
@@ -172,6 +204,11 @@ class Conventions(unittest.TestCase):
                 self.assertIs(type(tame.is_least_sink(tree, value)), bool)
             self.assertIs(type(groups.is_class(LINE, value)), bool)
             self.assertIs(type(heights.is_highest(LINE, CLASS, value)), bool)
+            self.assertIs(type(series.is_far(LINE, CLASS, value)), bool)
+            self.assertIs(type(halves.is_wu_lot(FORTY, value)), bool)
+            self.assertIs(type(texts.is_text(value)), bool)
+            self.assertIs(type(value in LINE), bool)
+            self.assertIs(type(value in Desk()), bool)
         self.assertIs(type(trees.are_alike(LINE, FORTY)), bool)
 
     def test_0_7_the_first_wrong_argument_is_told(self):
@@ -188,6 +225,10 @@ class Conventions(unittest.TestCase):
         check_error(self, InvalidTree, NO_VALUE, pieces.low_rows, None, None, None)
         check_error(self, InvalidClass, NO_VALUE, pieces.low_rows, LINE, None, None)
         check_error(self, InvalidNumber, None, pieces.low_rows, LINE, CLASS, None)
+        check_error(self, InvalidTree, NO_VALUE, near.tau_code, None, None, None, None)
+        check_error(self, InvalidNumber, None, near.tau_code, LINE, None, None, None)
+        check_error(self, InvalidClass, NO_VALUE, boxes.box_count, LINE, None, None, None)
+        check_error(self, InvalidRow, NO_VALUE, boxes.box_count, LINE, CLASS, None, None)
         check_error(self, InvalidNumber, "a", fractions.lowest, "a", "b")
         check_error(self, InvalidNumber, "b", fractions.lowest, 1, "b")
 
