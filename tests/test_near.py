@@ -235,6 +235,12 @@ def sum_over_levels(tree, class_, place):
     return total
 
 
+def star_sum(number, pairs, last):
+    """The sum of the falls of a star to an index."""
+    rises = [1 + number * i - sum(-(-i * bottom // top) for top, bottom in pairs) for i in range(last)]
+    return sum(-rise for rise in rises if rise < 0)
+
+
 class Counts(unittest.TestCase):
     def test_14_6_counts_by_words(self):
         for tree, class_ in sample(415, 60):
@@ -285,6 +291,33 @@ class Bounds(unittest.TestCase):
                 self.assertEqual(len(tau(tree, 0, zero, 200)), 201)
                 above += 1
         self.assertEqual((below, above), (2, 2))
+
+    def test_k_of_just_5000_and_of_a_little_more(self):
+        tree = star_tree(1, ((3, 1), (70, 29), (111, 28)))
+        zero = (0,) * tree.size
+        self.assertEqual(k_entry(tree, 0), 5000)
+        check_same(self, near_count(tree, 0, zero), star_sum(1, ((3, 1), (70, 29), (111, 28)), 5000))
+        self.assertEqual(tau_code(tree, 0, zero, tau(tree, 0, zero, 9)[9] - 9999), ())
+        pairs = ((7, 5), (23, 11), (192, 155))
+        tree = star_tree(2, pairs)
+        self.assertEqual(k_entry(tree, 0), 4999 + Fraction(1, 5))
+        check_same(self, near_count(tree, 0, (0,) * tree.size), star_sum(2, pairs, 5000))
+        tree = star_tree(1, ((4, 1), (83, 25), (185, 83)))
+        self.assertEqual(k_entry(tree, 0), 5000 + Fraction(2, 9))
+        check_error(self, TooMany, 5000, near_count, tree, 0, (0,) * tree.size)
+        check_error(self, TooMany, 5000, tau_code, tree, 0, (0,) * tree.size, -BIG)
+
+    def test_tau_that_is_above_the_level_from_5000_on(self):
+        tree = made_tree((5, 4, 2, 3, 3, 3, 3, 6, 2, 2, 2, 3, 4, 2, 2, 1), (
+            (0, 2), (1, 4), (2, 3), (3, 5), (4, 6), (5, 7), (6, 8), (7, 12), (8, 9), (9, 10), (10, 11), (11, 13), (12, 15), (13, 14), (14, 15)))
+        zero = (0,) * 16
+        lifts = Lifts(tree, 15, zero)
+        lifts.go_on(4999)
+        self.assertEqual(lifts.worth_now(), 88)
+        lifts.go_on(1)
+        self.assertEqual(lifts.worth_now(), 89)
+        check_same(self, tau_code(tree, 15, zero, 88)[:2], (88, 87))
+        check_error(self, TooMany, 5000, tau_code, tree, 15, zero, 89)
 
     def test_tau_of_5000(self):
         found = 0
