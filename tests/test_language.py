@@ -310,6 +310,22 @@ class Statements(unittest.TestCase):
                     self.assertEqual(len(methods), len(set(methods)), file)
                     self.assertTrue("__getitem__" not in methods or "__iter__" in methods)
 
+    def test_attributes_are_assigned_through_a_local_name(self):
+        for file in FILES:
+            for function in functions(parsed(file)):
+                for node in ast.walk(function):
+                    if isinstance(node, ast.Attribute) and isinstance(node.ctx, ast.Store):
+                        self.assertIsInstance(node.value, ast.Name, (file, node.lineno))
+                        self.assertIn(node.value.id, local_names(function), (file, node.lineno))
+
+    def test_a_finally_only_puts_back(self):
+        for file in FILES:
+            for function in functions(parsed(file)):
+                for node in ast.walk(function):
+                    for line in node.finalbody if isinstance(node, ast.Try) else ():
+                        self.assertIsInstance(line, ast.Assign, (file, line.lineno))
+                        self.assertIsInstance(line.value, (ast.Name, ast.Attribute), (file, line.lineno))
+
     def test_raised_errors_are_made_on_the_spot(self):
         for file in FILES:
             for node in ast.walk(parsed(file)):

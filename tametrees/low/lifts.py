@@ -13,16 +13,16 @@ class Lifts:
     """
 
     def __init__(self, tree, place, class_):
-        self.down = WayDown(tree, class_, place)
-        left, class_left = self.down.left_tree, self.down.class_
-        start, _ = self.down.apart(quiet_row(WayDown(tree, class_, None)))
-        near = near_of(left)
-        presses = presses_of(left.numbers, near, start)
-        excess = [boxed + press for boxed, press in zip(presses_of_class(left, class_left), presses)]
-        self.rise = Rise(left.numbers, near, excess)
-        self.rise.kept = self.down.kept
+        down = WayDown(tree, class_, place)
+        left, near = down.left_tree, near_of(down.left_tree)
+        start, _ = down.apart(quiet_row(WayDown(tree, class_, None)))
+        boxed, presses = presses_of_class(left, down.class_), presses_of(left.numbers, near, start)
+        rise = Rise(left.numbers, near, [one + other for one, other in zip(boxed, presses)])
+        rise.kept = down.kept
+        self.down = down
         self.start = start
-        self.first = worth_in_class(left, class_left, start)
+        self.rise = rise
+        self.first = worth_in_class(left, down.class_, start)
 
     def go_on(self, many):
         """Goes on to the row with so much more at the place."""
