@@ -8,6 +8,7 @@ import random
 from fractions import Fraction
 
 from tametrees import errors
+from tametrees.desk.desk import Desk
 from tametrees.trees.definite import determinant_of, is_definite
 from tametrees.trees.kin import put_at_place, put_at_tie
 from tametrees.trees.trees import Tree, made_tree
@@ -33,7 +34,7 @@ def odd_values():
         ("bar",), ("pivots", ((1, 1),)), ((),), ((), ()), ([],), ({},), ((True,),), ((None,),), ("a", "b"),
         [], [0], [1, 2], [[1, 2], [3, 4]], [(0, 1)], {}, {0: 1}, {"tree": (1,)}, {(0, 1): [1]},
         deep, deep_list, Tree((2,), ()), (Tree((2,), ()),), [Tree((2,), ())],
-        errors.InvalidNumber(3), (errors.Refused(("bar",)), 1),
+        errors.InvalidNumber(3), (errors.Refused(("bar",)), 1), Desk(), (Desk(), "a"), ("tame", Desk()),
     ]
 
 
