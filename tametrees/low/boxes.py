@@ -4,7 +4,7 @@ from tametrees.base.kinds import is_whole_within
 from tametrees.errors import InvalidNumber, InvalidOperation, TooMany
 from tametrees.low.cells import cell_count, cells_of_box
 from tametrees.low.sure import sure_rows
-from tametrees.trees.groups import check_class, check_classed
+from tametrees.trees.groups import check_tree_and_class
 from tametrees.trees.trees import check_row
 
 MAX_CELLS = 20000
@@ -15,13 +15,13 @@ _MOST_LEVEL = 1000
 
 def sure_box(tree, class_):
     """The pair of the rows `low` and `high` of the sure box."""
-    _check_tree_and_class(tree, class_)
+    check_tree_and_class(tree, class_)
     return sure_rows(tree, class_)
 
 
 def box_count(tree, class_, low, high):
     """The signed sum of a box."""
-    _check_tree_and_class(tree, class_)
+    check_tree_and_class(tree, class_)
     check_row(tree, low)
     check_row(tree, high)
     if any([most < least for least, most in zip(low, high)]):
@@ -31,7 +31,7 @@ def box_count(tree, class_, low, high):
 
 def class_count(tree, class_):
     """The count of a class: the signed sum of its sure box."""
-    _check_tree_and_class(tree, class_)
+    check_tree_and_class(tree, class_)
     return count_of(tree, class_)
 
 
@@ -42,7 +42,7 @@ def count_of(tree, class_):
 
 def euler_numbers(tree, class_, level):
     """The least worth m of all rows of integers, and the tuple of the Euler numbers at the levels from m to `level`."""
-    _check_tree_and_class(tree, class_)
+    check_tree_and_class(tree, class_)
     if not is_whole_within(level, -_MOST_LEVEL, _MOST_LEVEL):
         raise InvalidNumber(level)
     cells = _cells_within(tree, class_, sure_rows(tree, class_))
@@ -61,11 +61,6 @@ def _sums_so_far(values):
         total = total + value
         found.append(total)
     return found
-
-
-def _check_tree_and_class(tree, class_):
-    check_classed(tree)
-    check_class(tree, class_)
 
 
 def _cells_within(tree, class_, ends):

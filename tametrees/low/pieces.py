@@ -3,7 +3,7 @@
 from tametrees.base.fractions import is_integer
 from tametrees.errors import InvalidNumber, TooMany
 from tametrees.low.lowest import rows_to_level, worth_in_class
-from tametrees.trees.groups import check_class, check_classed
+from tametrees.trees.groups import check_tree_and_class
 from tametrees.trees.trees import check_row
 
 MAX_LOW = 2000
@@ -12,7 +12,7 @@ MAX_LEVELS = 100
 
 def worth_in(tree, class_, row):
     """The worth in a class of a row of integers."""
-    _check_tree_and_class(tree, class_)
+    check_tree_and_class(tree, class_)
     check_row(tree, row)
     return worth_in_class(tree, class_, row)
 
@@ -84,14 +84,9 @@ class Joined:
                     self.leads[self.head(beside)] = self.head(row)
 
 
-def _check_tree_and_class(tree, class_):
-    check_classed(tree)
-    check_class(tree, class_)
-
-
 def _rows_with_worths(tree, class_, level):
     """The list of the pairs (worth, row) of the low rows to a level; here all arguments are checked."""
-    _check_tree_and_class(tree, class_)
+    check_tree_and_class(tree, class_)
     if not is_integer(level):
         raise InvalidNumber(level)
     found = rows_to_level(tree, class_, level, MAX_LOW)

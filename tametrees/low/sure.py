@@ -22,7 +22,7 @@ def sure_rows(tree, class_):
     return low, high
 
 
-def _excess(tree, class_, row):
+def far_excess(tree, class_, row):
     """How far the presses of a row of the class are above what a far row has at the most."""
     boxed = presses_of_class(tree, class_)
     presses = presses_of(tree.numbers, near_of(tree), row)
@@ -30,13 +30,13 @@ def _excess(tree, class_, row):
 
 
 def _places_over(tree, class_, row):
-    return [place for place, over in enumerate(_excess(tree, class_, row)) if over > 0]
+    return [place for place, over in enumerate(far_excess(tree, class_, row)) if over > 0]
 
 
 def _row_from_below(down, floor):
     """A row at or above the floor, and at or below each far row that is at or above the floor."""
     start, entries = down.apart(floor)
-    rise = Rise(down.left_tree.numbers, near_of(down.left_tree), _excess(down.left_tree, down.class_, start))
+    rise = Rise(down.left_tree.numbers, near_of(down.left_tree), far_excess(down.left_tree, down.class_, start))
     rise.finish()
     row = tuple([one + more for one, more in zip(start, rise.added)])
     for back, entry in zip(down.backs, entries):

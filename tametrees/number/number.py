@@ -6,14 +6,13 @@ from tametrees.low.lowest import presses_of_class
 from tametrees.rows.depth import share_of
 from tametrees.trees.definite import check_definite, tree_determinant
 from tametrees.trees.forests import left_of_tree
-from tametrees.trees.groups import check_class, check_classed, classes_of
+from tametrees.trees.groups import check_tree_and_class, classes_of
 from tametrees.trees.trees import near_of
 
 
 def class_share(tree, class_):
     """The share of a class, a fraction."""
-    check_classed(tree)
-    check_class(tree, class_)
+    check_tree_and_class(tree, class_)
     return _share_by_count(tree, class_, share_of(tree))
 
 

@@ -4,7 +4,7 @@ from tametrees.base.kinds import is_whole_row
 from tametrees.base.ratios import pair_of, ratio_product, ratio_sum
 from tametrees.errors import InvalidRow, TooMany
 from tametrees.trees.definite import check_definite, tree_determinant
-from tametrees.trees.groups import check_class, check_classed
+from tametrees.trees.groups import check_tree_and_class
 from tametrees.trees.shapes import unit_row
 from tametrees.trees.solved import row_with_presses
 from tametrees.trees.trees import check_row, near_of
@@ -75,8 +75,7 @@ def _is_odd(tree, presses):
 
 
 def _check_class_and_presses(tree, class_):
-    check_classed(tree)
-    check_class(tree, class_)
+    check_tree_and_class(tree, class_)
     many = 1
     for number in tree.numbers:
         many = many * number

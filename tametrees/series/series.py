@@ -3,13 +3,11 @@
 from math import comb
 from tametrees.base.kinds import is_whole_row
 from tametrees.errors import InvalidOperation, TooMany
-from tametrees.low.sure import sure_rows
-from tametrees.low.lowest import presses_of_class
+from tametrees.low.sure import far_excess, sure_rows
 from tametrees.trees.definite import check_definite, tree_determinant
 from tametrees.trees.duals import dual_tops
-from tametrees.trees.groups import check_class, check_classed
-from tametrees.trees.shapes import presses_of
-from tametrees.trees.trees import check_row, near_of
+from tametrees.trees.groups import check_tree_and_class
+from tametrees.trees.trees import check_row
 
 MOST_TERMS = 20000
 
@@ -37,26 +35,24 @@ def _factor(degree, exponent):
 
 def is_far(tree, class_, value):
     """Whether the value is a row of integers that is far in the class."""
-    _check_tree_and_class(tree, class_)
+    check_tree_and_class(tree, class_)
     return is_whole_row(value, tree.size) and _is_far_row(tree, class_, value)
 
 
 def _is_far_row(tree, class_, row):
-    pressed = presses_of_class(tree, class_)
-    presses = presses_of(tree.numbers, near_of(tree), row)
-    return all([one + other <= 2 - number for one, other, number in zip(pressed, presses, tree.numbers)])
+    return max(far_excess(tree, class_, row)) <= 0
 
 
 def far_row(tree, class_):
     """A row of integers that is far in the class."""
-    _check_tree_and_class(tree, class_)
+    check_tree_and_class(tree, class_)
     _, high = sure_rows(tree, class_)
     return high
 
 
 def left_behind(tree, class_, row):
     """The sum of the coefficients of all rows of the class that are left behind a far row."""
-    _check_tree_and_class(tree, class_)
+    check_tree_and_class(tree, class_)
     check_row(tree, row)
     if not _is_far_row(tree, class_, row):
         raise InvalidOperation("the row is not far in the class")
@@ -66,11 +62,6 @@ def left_behind(tree, class_, row):
     if found is None:
         raise TooMany(MOST_TERMS)
     return sum([told for told, tops in found if tuple([top % whole for top in tops]) == class_])
-
-
-def _check_tree_and_class(tree, class_):
-    check_classed(tree)
-    check_class(tree, class_)
 
 
 def _terms_behind(tree, ends):

@@ -26,6 +26,12 @@ def check_class(tree, value):
         raise InvalidClass("a class is a tuple of integers whose row, divided by the determinant, is dual")
 
 
+def check_tree_and_class(tree, class_):
+    """The check of two arguments: a classed tree and a class of it."""
+    check_classed(tree)
+    check_class(tree, class_)
+
+
 def is_class(tree, value):
     """Whether the value is a class of the tree."""
     check_classed(tree)
@@ -83,8 +89,7 @@ def class_of(tree, row):
 
 def boxed_row(tree, class_):
     """The row of a class whose entries, fractions, are from 0 to below 1."""
-    check_classed(tree)
-    check_class(tree, class_)
+    check_tree_and_class(tree, class_)
     whole = tree_determinant(tree)
     return tuple([ratio(part, whole) for part in class_])
 
@@ -98,24 +103,21 @@ def place_class(tree, place):
 
 def class_sum(tree, one, other):
     """The sum of two classes."""
-    check_classed(tree)
-    check_class(tree, one)
+    check_tree_and_class(tree, one)
     check_class(tree, other)
     return _sum_within(one, other, tree_determinant(tree))
 
 
 def class_opposite(tree, class_):
     """The class of the opposite rows."""
-    check_classed(tree)
-    check_class(tree, class_)
+    check_tree_and_class(tree, class_)
     whole = tree_determinant(tree)
     return tuple([-part % whole for part in class_])
 
 
 def class_order(tree, class_):
     """The least integer from 1 on whose product with the rows of the class has integers alone."""
-    check_classed(tree)
-    check_class(tree, class_)
+    check_tree_and_class(tree, class_)
     whole = tree_determinant(tree)
     shared = whole
     for part in class_:
@@ -125,8 +127,7 @@ def class_order(tree, class_):
 
 def class_product(tree, one, other):
     """The integer m from 0 to below the determinant D for which the product of the rows is m / D, modulo 1."""
-    check_classed(tree)
-    check_class(tree, one)
+    check_tree_and_class(tree, one)
     check_class(tree, other)
     whole = tree_determinant(tree)
     # Each press of a class is a multiple of the determinant, so the division leaves no rest.
